@@ -1,0 +1,1 @@
+"""Terms, and what the other parts of the package share."""

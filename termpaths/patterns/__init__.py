@@ -1,0 +1,1 @@
+"""Patterns: values for names, and how patterns are compared, joined and solved."""

@@ -1,0 +1,1 @@
+"""Programs: points, and edges with actions between them."""

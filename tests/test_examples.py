@@ -1,0 +1,56 @@
+"""The written examples of the document."""
+
+import unittest
+
+from termpaths.base.terms import height_of, parts_of, put, size_of
+from termpaths.patterns.matching import is_misfit, match
+from termpaths.patterns.patterns import Pattern
+from termpaths.patterns.solving import is_solving_paper, solved
+from termpaths.programs.programs import make_program
+
+
+class ExamplesTest(unittest.TestCase):
+    def test_terms(self):
+        term = ("f", "x", ("g", "x"))
+        self.assertEqual([size_of(term), height_of(term), list(parts_of(term))],
+                         [4, 2, ["x", ("g", "x"), ("f", "x", ("g", "x"))]])
+        self.assertEqual(put(("f", "x", "y"), x="y", y=("g", "x")), ("f", "y", ("g", "x")))
+
+    def test_patterns(self):
+        p = Pattern(x=7, y=("f", 7, ("g", 3)))
+        self.assertEqual(
+            [p["y"], p.holes, p.weight, p.rows, p.places, p == Pattern(x=1, y=("f", 1, ("g", 2)))],
+            [("f", 1, ("g", 2)), 2, 4, (1, 2, ("g", 1), ("f", 0, 2)), {"x": 0, "y": 3}, True])
+        self.assertEqual(
+            [p(("g", "x")), p.same("y", ("f", "x", ("g", "x"))), p.after((("x", "y"), ("y", 1)))["x"], len(p), "z" in p],
+            [("g", 1), False, ("f", 1, ("g", 2)), 2, False])
+
+    def test_instances(self):
+        p = Pattern(x=7, y=("f", 7, ("g", 3)))
+        misfit = ("unlike", ("x",), ("y",))
+        self.assertEqual(
+            [match(Pattern(x=1, y=2), p), is_misfit(Pattern(x=1, y=1), p, misfit), p <= Pattern(x=1, y=2),
+             p <= Pattern(x=1, y=1)],
+            [{1: 0, 2: 3}, True, True, False])
+
+    def test_common_patterns(self):
+        found = Pattern(x=("a",), y=("f", ("a",))) | Pattern(x=("b",), y=("f", ("b",)))
+        self.assertEqual(found["y"], ("f", 1))
+
+    def test_solving(self):
+        s = solved(("x", "y", "z"), ("x", ("f", "y")), (("f", "z"), "x"))
+        circle = ("refuted", (("x", ("f", "x"), ("given", 0)),), ("within", (0,)))
+        self.assertEqual(
+            [s["x"], s["y"], s["z"], is_solving_paper(("x",), (("x", ("f", "x")),), circle)],
+            [("f", 1), 1, 1, True])
+
+    def test_programs(self):
+        loop = make_program(("x", "y"), (0, (("x", ("a",)), ("y", ("f", ("a",)))), 1),
+                            (1, (("x", ("f", "x")), ("y", ("f", "y"))), 1))
+        self.assertEqual(loop[:2], (("x", "y"), 2))
+        fork = make_program(("x", "y", "z"), (0, (("x", ("f", "z")), ("y", "z")), 1), (0, (("x", ("f", "y")),), 1))
+        self.assertEqual([fork[1], len(fork[2])], [2, 2])
+
+
+if __name__ == "__main__":
+    unittest.main()
