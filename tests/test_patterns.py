@@ -208,6 +208,9 @@ class ValuesTest(unittest.TestCase):
         self.assertEqual(caught.exception.limit, 7)
         with self.assertRaises(UnknownName):
             powers(x=60)["y"]
+        with self.assertRaises(InvalidTerm):
+            powers(x=60)(("f", "x", "y"))
+        self.assertIs(powers(x=60).same(("s", "x"), ("s", "x")), True)
 
     def test_heights(self):
         p = Pattern(x=1, y=("a",), z=("f", ("a",), ("g", 1)))

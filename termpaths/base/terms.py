@@ -93,8 +93,10 @@ def sorted_terms(terms):
         raise InvalidTerm("the terms are not a tuple")
     for term in terms:
         check_term(term)
-    found = {_place_in_order(term): term for term in terms}
-    return tuple([found[place] for place in sorted([str(_place_in_order(term)) for term in terms])])
+    orders = [_place_in_order(term) for term in terms]
+    found = {orders[k]: terms[k] for k in range(len(terms))}
+    ascending = sorted([str(order) for order in orders])
+    return tuple([found[order] for order in ascending])
 
 
 def put(term, **terms):

@@ -1,5 +1,6 @@
 """Common patterns: the most special pattern of which some patterns are instances."""
 
+from termpaths.base.rows import same_sign
 from termpaths.errors import InvalidPattern
 from termpaths.patterns.matching import match
 from termpaths.patterns.patterns import Pattern, check_same_names
@@ -30,19 +31,13 @@ def is_common_of(value, patterns):
     if not isinstance(value, Pattern) or value.names != patterns[0].names:
         return False
     # The common pattern is not made here: it may be too great on the way to a smaller one.
-    parts = {hole + 1: [] for hole in range(value.holes)}
-    for pattern in patterns:
-        found = match(value, pattern)
-        if found is None:
-            return False
-        for hole in parts:
-            parts[hole].append(found[hole])
-    if len(set([tuple(parts[hole]) for hole in parts])) < len(parts):
+    matches = [match(value, pattern) for pattern in patterns]
+    if None in matches:
         return False
-    for hole in parts:
-        if _have_one_operator([pattern.rows[parts[hole][k]] for k, pattern in enumerate(patterns)]):
-            return False
-    return True
+    parts = [tuple([found[hole + 1] for found in matches]) for hole in range(value.holes)]
+    if len(set(parts)) < len(parts):
+        return False
+    return not any([_have_one_operator(patterns, positions) for positions in parts])
 
 
 def differences(p, q):
@@ -60,7 +55,7 @@ def _check_patterns(patterns):
     check_same_names(patterns)
 
 
-def _have_one_operator(rows):
-    if len([row for row in rows if isinstance(row, int)]) > 0:
-        return False
-    return len(set([(row[0], len(row)) for row in rows])) == 1
+def _have_one_operator(patterns, positions):
+    """Tell whether each pattern has the same operator at its position."""
+    rows = [pattern.rows[positions[k]] for k, pattern in enumerate(patterns)]
+    return all([same_sign(rows[0], row) for row in rows])

@@ -33,10 +33,12 @@ class Pattern:
         return made
 
     @staticmethod
-    def free(*names):
+    def free(first=None, *others):
         """Return the pattern in which each name has a hole of its own."""
+        # Without any name the first one is None, and this is as invalid as every other value that is no name.
+        names = (first, *others)
         if not all([is_name(name) for name in names]):
-            raise InvalidPattern("a name is no name")
+            raise InvalidPattern("not at least one name, and only names")
         ordered = sorted(set(names))
         return Pattern.of({ordered[k]: k + 1 for k in range(len(ordered))})
 
@@ -137,7 +139,7 @@ class Pattern:
         """Return the position of the value of a name."""
         if name not in self._names:
             raise UnknownName(name)
-        return self._spots[self._names.index(name)]
+        return self.places[name]
 
     def _is_instance(self, p):
         """Tell whether this pattern is an instance of another one with the same names."""

@@ -3,22 +3,6 @@
 from termpaths.base.rows import evaluated, same_sign, with_holes
 
 
-def refutation(names, equalities):
-    """Return the lines and the end of a refutation of equalities over some names that have no solution."""
-    terms = [term for pair in equalities for term in pair]
-    rows, _ = with_holes((), list(range(len(names))))
-    rows, spots = evaluated(rows, {name: k for k, name in enumerate(names)}, terms)
-    proof = Proof(rows)
-    for k in range(len(equalities)):
-        proof.add_line(spots[2 * k], spots[2 * k + 1], ("given", k))
-    clash = proof.close()
-    ends = _circle(proof, len(names)) if clash is None else (clash,)
-    lines, numbers = _written(_terms_of(names, rows), proof.lines, ends)
-    if clash is None:
-        return lines, ("within", tuple([numbers[line] for line in ends]))
-    return lines, ("clash", numbers[clash])
-
-
 class Proof:
     """Lines about the positions of rows, and classes of positions that are equal by these lines.
 
@@ -110,6 +94,22 @@ class Proof:
         """Add a line of two different positions of one class, and return its number."""
         back = [self.turned(line) for line in reversed(list(self.way_up(second)))]
         return self.chained([*self.way_up(first), *back])
+
+
+def refutation(names, equalities):
+    """Return the lines and the end of a refutation of equalities over some names that have no solution."""
+    terms = [term for pair in equalities for term in pair]
+    rows, _ = with_holes((), list(range(len(names))))
+    rows, spots = evaluated(rows, {name: k for k, name in enumerate(names)}, terms)
+    proof = Proof(rows)
+    for k in range(len(equalities)):
+        proof.add_line(spots[2 * k], spots[2 * k + 1], ("given", k))
+    clash = proof.close()
+    ends = _circle(proof, len(names)) if clash is None else (clash,)
+    lines, numbers = _written(_terms_of(names, rows), proof.lines, ends)
+    if clash is None:
+        return lines, ("within", tuple([numbers[line] for line in ends]))
+    return lines, ("clash", numbers[clash])
 
 
 def _circle(proof, many):
