@@ -3,7 +3,9 @@
 import itertools
 import unittest
 
-from tests.reference import STRANGE, instance_values, matching, numbered, powers, random_values, rng, shared_form, stepped
+from tests.reference import (
+    STRANGE, instance_values, matching, numbered, powers, random_term, random_values, rng, shared_form, stepped,
+)
 from termpaths.base.terms import is_term
 from termpaths.errors import InvalidOperation, InvalidPattern
 from termpaths.patterns import matching as module
@@ -36,6 +38,15 @@ def all_misfits(values, others):
         if isinstance(mine[one], int) and mine[one] == mine[two] and other[one] != other[two]:
             found.add(("unlike", one, two))
     return found
+
+
+def changed(one, value):
+    """Return a value with terms put for some of its parts, mostly for holes, not for all places alike."""
+    if isinstance(value, int):
+        return one.choice((value, value, value, value, ("a",), 9))
+    if one.randrange(30) == 0:
+        return one.choice((8, ("b",), ("q",) + value[1:]))
+    return (value[0],) + tuple(changed(one, term) for term in value[1:])
 
 
 def ordinary(*several):
@@ -126,6 +137,16 @@ class MisfitTest(unittest.TestCase):
             self.check_all(p, q, values, others, expected)
         self.assertGreater(min(kinds.values()), 10)
 
+    def test_first_words(self):
+        p, q = Pattern(x=("f", 1), y=("g", 1)), Pattern(x=1, y=("g", 2))
+        self.assertIs(is_misfit(p, q, ("sign", ("x",))), True)
+        for word in ("unlike", "Sign", "", None, 1, p):
+            self.assertIs(is_misfit(p, q, (word, ("x",))), False)
+        p, q = Pattern(x=1, y=1), Pattern(x=1, y=2)
+        self.assertIs(is_misfit(p, q, ("unlike", ("x",), ("y",))), True)
+        for word in ("sign", "Unlike", "", None, 1, p):
+            self.assertIs(is_misfit(p, q, (word, ("x",), ("y",))), False)
+
     def check_all(self, p, q, values, others, expected):
         known = [place for name in values for place, _ in places(name, values[name])]
         known += [place for name in others for place, _ in places(name, others[name])]
@@ -143,6 +164,25 @@ class MisfitTest(unittest.TestCase):
         self.assertIn(misfit(p, q), (("unlike", ("x", 0, 1), ("y", 1)), ("unlike", ("y", 1), ("x", 0, 1))))
         other = Pattern(x=("f", ("g", 1, 2)), y=("k", 1, 2))
         self.assertEqual(misfit(p, other), ("sign", ("y",)))
+
+    def test_shared_parts_that_differ_further_in(self):
+        kinds = {"sign": 0, "unlike": 0}
+        for seed in range(1000):
+            one = rng(seed)
+            inner = random_term(one, [1, 2, 3], 4)
+            values = numbered({"x": ("k", inner), "y": inner, "z": ("m", inner, 1)})
+            others = {name: changed(one, value) for name, value in values.items()}
+            others = numbered(dict(others, z=("m", others["y"], ("c",))) if seed % 2 else others)
+            if not ordinary(values, others):
+                continue
+            p, q = Pattern(**values), Pattern(**others)
+            found = misfit(p, q)
+            self.assertEqual(found is None, matching(values, others) is not None)
+            if found is not None:
+                self.assertIn(found, all_misfits(values, others))
+                self.assertIs(is_misfit(p, q, found), True)
+                kinds[found[0]] += 1 if max(len(place) for place in found[1:]) > 3 else 0
+        self.assertGreater(min(kinds.values()), 15)
 
     def test_deep(self):
         deep = stepped(Pattern(x=1, y=1), DOUBLE, 240)

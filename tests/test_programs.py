@@ -174,6 +174,11 @@ class RenamedTest(unittest.TestCase):
         self.assertEqual(found, (("a", "y", "zz"), 2, (
             (0, (("y", ("g", "a", 7)), ("zz", ("f", "y", ("x",)))), 1), (1, (("a", "zz"),), 0))))
 
+    def test_ten_names_turned_round(self):
+        program = make_program(TEN, (0, tuple((name, ("f", name)) for name in TEN), 0))
+        turned = {name: TEN[9 - k] for k, name in enumerate(TEN)}
+        self.assertEqual(renamed_program_by(program, turned), program)
+
     def test_nothing_new(self):
         self.assertEqual(renamed_program(self.PROGRAM), self.PROGRAM)
         self.assertEqual(renamed_program_by(self.PROGRAM, {}), self.PROGRAM)
@@ -226,6 +231,7 @@ class RenumberedTest(unittest.TestCase):
         for value in STRANGE + (
             [0, 1, 2, 3], (1, 0, 2, 3), (0, 1, 2), (0, 1, 2, 3, 4), (0, 1, 2, 2), (0, 1, 2, 4), (0, True, 2, 3),
             (False, 1, 2, 3), (0, 1, 2, -1), (0, 1, 2, None), (0, 1, 2, "3"), (0, 1, 2, (3,)), {0: 0}, (0, 0, 1, 2),
+            (0, 1, 2, 3, 3), (0, 1, 2, 3, 0), (0, 1, 2, ["3"]),
         ):
             with self.assertRaises(InvalidOperation):
                 renumbered(self.PROGRAM, value)

@@ -106,6 +106,7 @@ class SolvedTest(unittest.TestCase):
         self.assertIs(is_solving_paper(TEN, more, ("solved", solved(TEN, *heavy(TEN)))), False)
         self.assertIs(is_solving_paper(TEN, more, ("refuted", (), ("clash", 0))), False)
         self.assertIs(is_solving_paper(TEN, more, None), False)
+        self.assertIs(is_solving_paper(TEN, heavy(TEN), ("solved", solved(TEN, *heavy(TEN)))), True)
 
     def test_errors_of_names(self):
         for names in STRANGE + (
@@ -191,6 +192,22 @@ class PaperTest(unittest.TestCase):
         self.assertEqual(paper[2][0], "within")
         self.assertIs(is_solving_paper(names, long * 30, paper), True)
 
+    def test_names_that_are_made_equal_in_many_orders(self):
+        ends = {"clash": 0, "within": 0, "solved": 0}
+        for seed in range(300):
+            one = rng(seed)
+            equalities = [(one.choice(TEN), one.choice(TEN)) for _ in range(9)]
+            equalities += [(one.choice(TEN), ("f", one.choice(TEN))) for _ in range(2)] + [(one.choice(TEN), ("a",))]
+            one.shuffle(equalities)
+            paper = solving_paper(TEN, *equalities)
+            self.assertEqual(paper[0] == "refuted", unified(equalities) is None)
+            self.assertIs(is_solving_paper(TEN, tuple(equalities), paper), True)
+            ends[paper[2][0] if paper[0] == "refuted" else "solved"] += 1
+            if paper[0] == "refuted":
+                self.assertTrue(judged(equalities, paper))
+                self.assertEqual(needed_lines(paper), len(paper[1]))
+        self.assertGreater(min(ends.values()), 10)
+
     def test_merged_terms_before_a_circle(self):
         # x and y are one value, so the circle leads through terms of several equalities.
         equalities = ((("g", "x", "y"), ("g", ("f", "z"), ("f", ("f", "v")))), ("x", "y"), ("v", ("k", "z", "z")),
@@ -199,6 +216,20 @@ class PaperTest(unittest.TestCase):
         paper = solving_paper(names, *equalities)
         self.assertEqual((paper[0], paper[2][0]), ("refuted", "within"))
         self.assertIs(is_solving_paper(names, equalities, paper), True)
+
+
+def needed_lines(paper):
+    """Return how many lines the end of a refutation needs."""
+    _, lines, end = paper
+    todo = list(end[1]) if end[0] == "within" else [end[1]]
+    found = set()
+    while todo:
+        number = todo.pop()
+        if number not in found:
+            found.add(number)
+            reason = lines[number][2]
+            todo += {"given": [], "part": reason[1:2], "turn": reason[1:], "chain": reason[1:]}[reason[0]]
+    return len(found)
 
 
 def judged(equalities, paper):
@@ -317,7 +348,9 @@ class JudgeTest(unittest.TestCase):
             (0, ("x", ("f", "v"), ("given", 0))), (0, ("x", 1, ("given", 0))),
             (1, (("f", "y"), "x", ("turn", 1))), (1, (("f", "y"), "x", ("turn", 2))), (1, ("x", ("f", "y"), ("turn", 0))),
             (1, (("f", "y"), "x", ("turn", False))), (1, (("f", "y"), "x", ("turn", 0, 0))),
-            (1, (("f", "y"), "x", ("turn", -5))), (1, (("f", "y"), "x", ("turn",))), (1, (("f", "y"), "x", "turn")),
+            (1, (("f", "y"), "x", ("turn", -5))), (1, (("f", "y"), "x", ("turn",))), (1, (("f", "y"), "x", ("chain", 0))),
+            (1, (("f", "y"), "x", (None, 0))), (1, (("f", "y"), "x", ("part", 0))),
+            (3, (("f", "y"), ("f", ("g", "x")), ("part", 1, 2))), (3, (("f", "y"), ("f", ("g", "x")), (1, 1, 2))), (1, (("f", "y"), "x", "turn")),
             (3, (("f", "y"), ("f", ("g", "x")), ("chain", 2, 1))), (3, (("f", "y"), ("f", ("g", "x")), ("chain", 1, 3))),
             (3, (("f", "y"), ("f", ("g", "x")), ("chain", 1, 4))), (3, (("f", "y"), ("f", ("g", "x")), ("chain", 1))),
             (3, (("f", "y"), ("f", "y"), ("chain", 1, 2))), (3, (("f", "y"), ("f", ("g", "x")), ("chain", True, 2))),
@@ -332,6 +365,8 @@ class JudgeTest(unittest.TestCase):
             self.assertIs(self.judge(lines, good), False, line)
         for lines in (list(self.LINES), None, {}, "lines", 0, ()):
             self.assertIs(self.judge(lines, good), False)
+        self.assertIs(is_solving_paper(XYZ, self.GIVEN, ("solved", self.LINES, good)), False)
+        self.assertIs(is_solving_paper(XYZ, self.GIVEN, ("refuted", self.LINES)), False)
 
     def test_parts_of_terms_with_other_operators(self):
         lines = ((("f", "x"), ("g", "x"), ("given", 2)), ("x", "x", ("part", 0, 0)))

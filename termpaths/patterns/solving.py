@@ -1,6 +1,6 @@
 """Solving: the most general values for which some terms are equal, or why there are none."""
 
-from termpaths.base.checks import check_equalities, is_closed_term, is_index
+from termpaths.base.checks import check_equalities, is_index
 from termpaths.base.rows import evaluated, same_sign
 from termpaths.base.terms import postfix
 from termpaths.errors import InvalidPattern
@@ -56,11 +56,11 @@ def is_solving_paper(names, equalities, value):
         return False
     if len(value) == 2 and value[0] == "solved":
         shape = _demanded_shape(Pattern.free(*names), equalities)
-        if shape is None or len(shape[0]) > MAX_WEIGHT or not isinstance(value[1], Pattern):
+        if shape is None or len(shape[0]) > MAX_WEIGHT:
             return False
-        return value[1] == pattern_of(names, shape)
+        return pattern_of(names, shape) == value[1]
     if len(value) == 3 and value[0] == "refuted":
-        return _are_lines(names, equalities, value[1]) and _is_end(value[1], value[2])
+        return _are_lines(equalities, value[1]) and _is_end(value[1], value[2])
     return False
 
 
@@ -82,15 +82,14 @@ def _pattern_or_none(names, shape):
     return None if shape is None else pattern_of(names, shape)
 
 
-def _are_lines(names, equalities, lines):
+def _are_lines(equalities, lines):
     """Tell whether a value is a tuple of lines, each of which follows."""
     if not isinstance(lines, tuple):
         return False
     for number, line in enumerate(lines):
         if not isinstance(line, tuple) or len(line) != 3 or not isinstance(line[2], tuple) or not line[2]:
             return False
-        if not is_closed_term(line[0], names) or not is_closed_term(line[1], names):
-            return False
+        # What follows from the equalities is of their terms, so the terms need no other check.
         if _told(equalities, lines, number, line[2]) != line[:2]:
             return False
     return True
