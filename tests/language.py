@@ -32,7 +32,7 @@ BANNED_WORDS = {
 }
 NOT_USED = (
     ast.Lambda, ast.Try, ast.With, ast.Global, ast.Nonlocal, ast.Match, ast.AsyncFunctionDef, ast.GeneratorExp, ast.SetComp,
-    ast.NamedExpr, ast.Await, ast.AnnAssign, ast.YieldFrom, ast.Delete, ast.Import, ast.AsyncFor, ast.Div, ast.MatMult,
+    ast.NamedExpr, ast.Await, ast.AnnAssign, ast.Delete, ast.Import, ast.AsyncFor, ast.Div, ast.MatMult,
     ast.AsyncWith, ast.Set,
 )
 AT_ONCE = {"zip", "enumerate", "range", "reversed"}
@@ -73,11 +73,15 @@ def plain(node):
 
 
 class Reader:
-    """Collects the problems of the file that a tree is of; own_methods are those of all classes of the package."""
+    """Collects the problems of the file that a tree is of.
 
-    def __init__(self, tree, own_methods):
+    The methods are those of all classes of the package, the generators all its functions that yield.
+    """
+
+    def __init__(self, tree, methods, generators):
         self.tree = tree
-        self.own_methods = own_methods
+        self.own_methods = methods
+        self.generators = generators
         self.found = []
         self.parents = {child: node for node in ast.walk(tree) for child in ast.iter_child_nodes(node)}
         self.imports = {alias.name for node in tree.body if isinstance(node, ast.ImportFrom) for alias in node.names}
@@ -206,6 +210,12 @@ class Reader:
             return
         if called(node, *AT_ONCE) and not self.iterated(node):
             self.tell(node, f"L23: {function.id} is kept")
+        if called(node, *self.generators):
+            if not self.iterated(node):
+                self.tell(node, f"L23: {function.id} is kept")
+            for part in [inner for one in node.args for inner in ast.walk(one)]:
+                if not isinstance(part, (ast.Name, ast.Attribute, ast.Constant, ast.expr_context)):
+                    self.tell(node, f"L23: {function.id} is passed something else")
         if called(node, "reversed") and not called(node.args[0], "list", "tuple", "sorted", "range"):
             self.tell(node, "L5: reversed")
         if called(node, "set") and not self.set_place(node):
@@ -223,6 +233,8 @@ class Reader:
         parent = self.parents[node]
         if isinstance(parent, (ast.For, ast.comprehension)):
             return parent.iter is node
+        if isinstance(parent, ast.YieldFrom):
+            return called(node, *self.generators)
         if called(parent, "reversed"):
             return called(node, "range")
         return called(parent, *TAKERS) and parent.args[0] is node or called(parent, "len") and called(node, "range")
@@ -320,9 +332,14 @@ def own_methods(trees):
             for part in node.body if isinstance(part, ast.FunctionDef)}
 
 
-def problems_of_tree(tree, methods):
+def own_generators(trees):
+    return {node.name for tree in trees for node in ast.walk(tree) if isinstance(node, ast.FunctionDef)
+            if any(isinstance(part, (ast.Yield, ast.YieldFrom)) for part in ast.walk(node))}
+
+
+def problems_of_tree(tree, methods, generators=()):
     """Return the problems of a file by its tree."""
-    return Reader(tree, methods).read()
+    return Reader(tree, methods, generators).read()
 
 
 def imported(tree):

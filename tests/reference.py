@@ -1,5 +1,6 @@
 """Slow and plain ways to find the same answers, and values of all kinds, for the tests."""
 
+import functools
 import random
 
 from termpaths.patterns.patterns import Pattern
@@ -67,6 +68,12 @@ def stepped(pattern, action, times):
 
 def powers(**counts):
     """Return the pattern in which each name has the operator s so many times over one hole for all names."""
+    return made_powers(tuple(sorted(counts.items())))
+
+
+@functools.cache
+def made_powers(counted):
+    counts = dict(counted)
     pattern = Pattern(**{name: 1 for name in counts})
     for name, count in counts.items():
         pattern = stepped(pattern, ((name, ("s", name)),), count)

@@ -2,11 +2,16 @@
 
 import unittest
 
+from tests.hand import FORK, LOOP, TURN
 from termpaths.base.terms import height_of, parts_of, put, size_of
 from termpaths.patterns.matching import is_misfit, match
 from termpaths.patterns.patterns import Pattern
 from termpaths.patterns.solving import is_solving_paper, solved
 from termpaths.programs.programs import make_program
+from termpaths.programs.runs import end_of, runs, state_after
+from termpaths.programs.statements import statement_program
+from termpaths.questions.failing import failing_lengths, failing_runs, shortest_failing
+from termpaths.tables.tables import rounds, table
 
 
 class ExamplesTest(unittest.TestCase):
@@ -50,6 +55,31 @@ class ExamplesTest(unittest.TestCase):
         self.assertEqual(loop[:2], (("x", "y"), 2))
         fork = make_program(("x", "y", "z"), (0, (("x", ("f", "z")), ("y", "z")), 1), (0, (("x", ("f", "y")),), 1))
         self.assertEqual([fork[1], len(fork[2])], [2, 2])
+        self.assertEqual((loop, fork), (LOOP, FORK))
+
+    def test_statements(self):
+        program, marks = statement_program(
+            ("x",), ("seq", ("do", (("x", ("a",)),)), ("repeat", ("do", (("x", ("f", "x")),))), ("mark", "end")))
+        self.assertEqual(
+            [program[1:], marks],
+            [(4, ((0, (("x", ("a",)),), 1), (1, (), 2), (2, (("x", ("f", "x")),), 3), (3, (), 2))), {"end": 2}])
+
+    def test_runs(self):
+        self.assertEqual(
+            [state_after(LOOP, (0, 1))["y"], end_of(LOOP, (0, 1)), list(runs(LOOP, longest=2)), state_after(FORK, (1,))["x"]],
+            [("f", ("f", ("a",))), 1, [(), (0,), (0, 1)], ("f", 1)])
+
+    def test_tables(self):
+        self.assertEqual(
+            [table(LOOP)[1] == Pattern(x=1, y=("f", 1)), [sorted(one) for one in rounds(LOOP)], table(FORK)[1]["x"]],
+            [True, [[0], [0, 1], [0, 1]], ("f", 1)])
+
+    def test_failing_runs(self):
+        same = Pattern(x=1, y=1, z=2)
+        self.assertEqual(
+            [shortest_failing(TURN, 1, "x", "y", entry=same), failing_lengths(TURN, 1, "x", "y", longest=5, entry=same),
+             list(failing_runs(FORK, 1, "x", "y", length=1))],
+            [(0, 1), (2, 3, 5), [(0,), (1,)]])
 
 
 if __name__ == "__main__":

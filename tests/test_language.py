@@ -5,7 +5,7 @@ import os
 import unittest
 
 from tests.language import (
-    defined, imported, own_methods, package_files, problems_of_text, problems_of_tree,
+    defined, imported, own_generators, own_methods, package_files, problems_of_text, problems_of_tree,
 )
 
 ROOT = os.path.dirname(os.path.dirname(os.path.abspath(__file__)))
@@ -34,8 +34,15 @@ class PackageTest(unittest.TestCase):
 
     def test_problems(self):
         methods = own_methods(self.trees.values())
+        generators = own_generators(self.trees.values())
         for name, tree in self.trees.items():
-            self.assertEqual(problems_of_text(self.texts[name]) + problems_of_tree(tree, methods), [], name)
+            found = problems_of_text(self.texts[name]) + problems_of_tree(tree, methods, generators)
+            self.assertEqual(found, [], name)
+
+    def test_generators(self):
+        names = [node.name for tree in self.trees.values() for node in ast.walk(tree) if isinstance(node, ast.FunctionDef)]
+        for name in own_generators(self.trees.values()):
+            self.assertEqual(names.count(name), 1, name)
 
     def test_imports(self):
         for name, tree in self.trees.items():
@@ -52,8 +59,10 @@ class PackageTest(unittest.TestCase):
             left -= free
 
     def test_folders_bind_nothing(self):
-        for name in ("termpaths", "termpaths.base", "termpaths.patterns", "termpaths.programs"):
-            self.assertEqual([type(node) for node in self.trees[name].body], [ast.Expr])
+        folders = ["termpaths"] + [f"termpaths.{name}" for name in os.listdir(TOP) if os.path.isdir(os.path.join(TOP, name))]
+        for name in folders:
+            if not name.endswith("__pycache__"):
+                self.assertEqual([type(node) for node in self.trees[name].body], [ast.Expr])
 
 
 def used(tree, name):
@@ -78,6 +87,12 @@ class ReaderTest(unittest.TestCase):
             "class A:\n    def __getitem__(self, k):\n        return k", "def f(d):\n    return d.items()",
         ):
             self.assertNotEqual(problems_of_tree(ast.parse(text), set()), [], text)
+
+    def test_generators_that_are_kept(self):
+        for text in ("def f():\n    xs = g(1)\n    return xs", "def f():\n    return g(1)", "def f(xs):\n    return list(g(xs[0]))"):
+            self.assertNotEqual(problems_of_tree(ast.parse(text), set(), {"g"}), [], text)
+        text = "def f(xs):\n    for x in g(xs):\n        yield x\n    yield from g(xs)"
+        self.assertEqual(problems_of_tree(ast.parse(text), set(), {"g", "f"}), [])
 
     def test_nothing_is_found(self):
         text = "def f(xs):\n    ys = list(xs)\n    n = 0\n    for y in xs:\n        n += 1\n        ys.append(y)\n    return ys, n"

@@ -19,11 +19,16 @@ def hole_count(rows):
     return len([row for row in rows if isinstance(row, int)])
 
 
-def with_holes(rows, integers):
-    """Return the rows with a new hole for each integer, and a dict from the integers to the positions of these."""
+def integers_in(terms):
+    """Return the integers of some terms, ascending."""
+    return sorted(set([step for term in terms for step in postfix(term) if isinstance(step, int)]))
+
+
+def with_holes(rows, leaves):
+    """Return the rows with a new hole for each leaf, and a dict from the leaves to the positions of these."""
     first = hole_count(rows) + 1
-    made = (*rows, *[first + k for k in range(len(integers))])
-    return made, {integers[k]: len(rows) + k for k in range(len(integers))}
+    made = (*rows, *[first + k for k in range(len(leaves))])
+    return made, {leaves[k]: len(rows) + k for k in range(len(leaves))}
 
 
 def rows_beside(rows, others):
@@ -71,27 +76,27 @@ def shared(nodes, roots):
     """
     rows = []
     known = {}
-    places = {}
-    begun = {}
+    places = [-1] * len(nodes)
     holes = 0
     stack = list(reversed(list(roots)))
     while stack:
-        node = stack[-1]
-        if node in places:
-            stack.pop()
-            continue
+        node = stack.pop()
         row = nodes[node]
-        inner = row[1:] if isinstance(row, tuple) else ()
-        missing = [part for part in inner if part not in places]
-        if missing:
-            # A part that is begun and not done is among those that led here: it contains itself.
-            if len([part for part in missing if part in begun]) > 0:
+        if node >= 0:
+            # What is begun and not done is among those that led here: it contains itself.
+            if places[node] == -2:
                 return None
-            begun[node] = True
-            stack.extend(missing[::-1])
-            continue
-        stack.pop()
-        key = (row[0], *[places[part] for part in inner]) if isinstance(row, tuple) else row
+            if places[node] >= 0:
+                continue
+            if isinstance(row, tuple) and len(row) > 1:
+                # A negative index stands for a node that is begun; below it are the parts of its terms.
+                places[node] = -2
+                stack.append(node - len(nodes))
+                stack.extend(row[:0:-1])
+                continue
+            key = row
+        else:
+            key = (row[0], *[places[part] for part in row[1:]])
         if key not in known:
             known[key] = len(rows)
             if isinstance(row, int):

@@ -2,11 +2,11 @@
 
 from termpaths.base.checks import changed_names, check_closed_term, fits_action
 from termpaths.base.rows import (
-    evaluated, heights_of, hole_count, read_term, rows_beside, shared, sizes_of, with_holes,
+    evaluated, heights_of, hole_count, integers_in, read_term, rows_beside, shared, sizes_of, with_holes,
 )
 from termpaths.base.terms import is_name, is_term, postfix
 from termpaths.errors import InvalidOperation, InvalidPattern, InvalidTerm, TooLarge, UnknownName
-from termpaths.patterns.shapes import joined, matched, merged
+from termpaths.patterns.shapes import acted, joined, matched, merged
 
 MAX_WEIGHT = 500
 MAX_NAMES = 10
@@ -86,13 +86,7 @@ class Pattern:
         """Return the pattern that an action makes of this one."""
         if not fits_action(self._names, action):
             raise InvalidTerm("not an action over the names")
-        changes = {name: term for name, term in action}
-        terms = [changes.get(name, name) for name in self._names]
-        read = sorted(set([step for term in terms for step in postfix(term) if isinstance(step, int)]))
-        rows, fresh = with_holes(self._rows, read)
-        places = self.places
-        rows, spots = evaluated(rows, {**places, **fresh}, terms)
-        return pattern_of(self._names, shared(rows, spots))
+        return moved(self, action)
 
     def only(self, *names):
         """Return the pattern of some of the names."""
@@ -122,8 +116,7 @@ class Pattern:
 
     def beside(self, q):
         """Return the pattern with the names of this one and of another one."""
-        if not isinstance(q, Pattern):
-            raise InvalidPattern("not a pattern")
+        check_pattern(q)
         ordered = sorted(set([*self._names, *q._names]))
         if len(ordered) < len(self._names) + len(q._names):
             raise InvalidOperation("a name is in both patterns")
@@ -227,11 +220,27 @@ def pattern_of(names, shape):
     return made
 
 
+def shape_of(pattern):
+    """Return the rows and the positions of the values of a pattern."""
+    places = pattern.places
+    return pattern.rows, tuple([places[name] for name in pattern.names])
+
+
+def moved(pattern, action):
+    """Return the pattern that an action over its names makes of a pattern."""
+    return pattern_of(pattern.names, acted(pattern.names, shape_of(pattern), action))
+
+
+def check_pattern(value):
+    """Raise InvalidPattern for what is not a pattern."""
+    if not isinstance(value, Pattern):
+        raise InvalidPattern("not a pattern")
+
+
 def check_same_names(patterns):
     """Raise an error for what is not a tuple of patterns, or if their names are not the same."""
     for pattern in patterns:
-        if not isinstance(pattern, Pattern):
-            raise InvalidPattern("not a pattern")
+        check_pattern(pattern)
     for pattern in patterns:
         if pattern.names != patterns[0].names:
             raise InvalidOperation("the patterns have other names")
@@ -244,12 +253,12 @@ def _shape_of_values(values):
     for name in values:
         if not is_name(name) or not is_term(values[name]):
             raise InvalidPattern("not a name, or not a term")
-    steps = [step for name in values for step in postfix(values[name])]
-    if len([step for step in steps if isinstance(step, str)]) > 0:
-        raise InvalidPattern("a value has a variable")
+        if len([step for step in postfix(values[name]) if isinstance(step, str)]) > 0:
+            raise InvalidPattern("a value has a variable")
     names = sorted(set([str(name) for name in values]))
-    rows, places = with_holes((), sorted(set([step for step in steps if isinstance(step, int)])))
-    rows, spots = evaluated(rows, places, [values[name] for name in names])
+    terms = [values[name] for name in names]
+    rows, places = with_holes((), integers_in(terms))
+    rows, spots = evaluated(rows, places, terms)
     rows, spots = shared(rows, spots)
     if len(rows) > MAX_WEIGHT:
         raise TooLarge(MAX_WEIGHT)

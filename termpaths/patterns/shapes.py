@@ -1,6 +1,33 @@
-"""Matching, joining and merging of rows, for patterns and for what is made of them."""
+"""Matching, joining and merging of rows, for patterns and for what is made of them.
 
-from termpaths.base.rows import same_sign, shared
+A shape is a pair of the rows of a shared form and the positions of the values, for names in ascending order.
+"""
+
+from termpaths.base.rows import evaluated, integers_in, same_sign, shared, with_holes
+
+
+def free_shape(many):
+    """Return the shape in which each of so many names has a hole of its own."""
+    return tuple([k + 1 for k in range(many)]), tuple(list(range(many)))
+
+
+def acted(names, shape, action):
+    """Return the shape that an action over these names makes of a shape."""
+    if not action:
+        return shape
+    rows, spots = shape
+    terms = [term for _, term in action]
+    made, fresh = with_holes(rows, integers_in(terms))
+    places = {name: spots[k] for k, name in enumerate(names)}
+    made, found = evaluated(made, {**places, **fresh}, terms)
+    for k in range(len(action)):
+        places[action[k][0]] = found[k]
+    return shared(made, [places[name] for name in names])
+
+
+def is_instance(shape, other):
+    """Tell whether the other shape is an instance of a shape."""
+    return matched(shape[0], shape[1], other[0], other[1]) is not None
 
 
 def matched(rows, spots, others, other_spots):

@@ -4,7 +4,7 @@ from termpaths.base.checks import check_equalities, is_index
 from termpaths.base.rows import evaluated, same_sign
 from termpaths.base.terms import postfix
 from termpaths.errors import InvalidPattern
-from termpaths.patterns.patterns import MAX_WEIGHT, Pattern, are_names, pattern_of
+from termpaths.patterns.patterns import MAX_WEIGHT, Pattern, are_names, check_pattern, pattern_of
 from termpaths.patterns.refuting import refutation
 from termpaths.patterns.shapes import merged
 
@@ -18,7 +18,7 @@ def solved_all(names, equalities):
     """Return the most general solution of a tuple of equalities over some names, or None."""
     _check_names(names)
     check_equalities(names, equalities)
-    return _pattern_or_none(names, _demanded_shape(Pattern.free(*names), equalities))
+    return _pattern_or_none(names, demanded_shape(Pattern.free(*names), equalities))
 
 
 def demanded(pattern, *equalities):
@@ -28,10 +28,9 @@ def demanded(pattern, *equalities):
 
 def demanded_all(pattern, equalities):
     """Return the most general instance of a pattern in which a tuple of equalities hold, or None."""
-    if not isinstance(pattern, Pattern):
-        raise InvalidPattern("not a pattern")
+    check_pattern(pattern)
     check_equalities(pattern.names, equalities)
-    return _pattern_or_none(pattern.names, _demanded_shape(pattern, equalities))
+    return _pattern_or_none(pattern.names, demanded_shape(pattern, equalities))
 
 
 def solving_paper(names, *equalities):
@@ -55,7 +54,7 @@ def is_solving_paper(names, equalities, value):
     if not isinstance(value, tuple):
         return False
     if len(value) == 2 and value[0] == "solved":
-        shape = _demanded_shape(Pattern.free(*names), equalities)
+        shape = demanded_shape(Pattern.free(*names), equalities)
         if shape is None or len(shape[0]) > MAX_WEIGHT:
             return False
         return pattern_of(names, shape) == value[1]
@@ -64,18 +63,18 @@ def is_solving_paper(names, equalities, value):
     return False
 
 
-def _check_names(names):
-    if not are_names(names):
-        raise InvalidPattern("not an ascending tuple of one to ten names")
-
-
-def _demanded_shape(pattern, equalities):
+def demanded_shape(pattern, equalities):
     """Return the rows and the positions of what is demanded, of any weight, or None."""
     places = pattern.places
     terms = [term for pair in equalities for term in pair]
     rows, spots = evaluated(pattern.rows, places, terms)
     pairs = [(spots[2 * k], spots[2 * k + 1]) for k in range(len(equalities))]
     return merged(rows, [places[name] for name in pattern.names], pairs)
+
+
+def _check_names(names):
+    if not are_names(names):
+        raise InvalidPattern("not an ascending tuple of one to ten names")
 
 
 def _pattern_or_none(names, shape):

@@ -1,0 +1,1 @@
+"""Conditions on the values at the entry of a program."""

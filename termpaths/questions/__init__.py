@@ -1,0 +1,1 @@
+"""Questions about the values after all runs to a point."""

@@ -1,0 +1,1 @@
+"""Tables: what is known of the values at each point of a program."""
