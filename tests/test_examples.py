@@ -4,12 +4,18 @@ import unittest
 
 from tests.hand import FORK, LOOP, TURN
 from termpaths.base.terms import height_of, parts_of, put, size_of
+from termpaths.bounds.heights import greatest_height, height_after, height_paper, is_height_paper, size_after
+from termpaths.conditions.conditions import (
+    before, condition_paper, condition_rounds, forced, is_condition_paper, weakest,
+)
+from termpaths.models.models import Model, failing_model, is_failing_model
 from termpaths.patterns.matching import is_misfit, match
 from termpaths.patterns.patterns import Pattern
 from termpaths.patterns.solving import is_solving_paper, solved
 from termpaths.programs.programs import make_program
 from termpaths.programs.runs import end_of, runs, state_after
 from termpaths.programs.statements import statement_program
+from termpaths.questions.equalities import equal_names, equalities, fits, holds, is_equality_paper
 from termpaths.questions.failing import failing_lengths, failing_runs, shortest_failing
 from termpaths.tables.tables import rounds, table
 
@@ -80,6 +86,50 @@ class ExamplesTest(unittest.TestCase):
             [shortest_failing(TURN, 1, "x", "y", entry=same), failing_lengths(TURN, 1, "x", "y", longest=5, entry=same),
              list(failing_runs(FORK, 1, "x", "y", length=1))],
             [(0, 1), (2, 3, 5), [(0,), (1,)]])
+
+    def test_equalities_and_shapes(self):
+        self.assertEqual([holds(LOOP, 1, "y", ("f", "x")), holds(FORK, 1, "x", ("f", "y")), holds(LOOP, 1, "x", ("a",))],
+                         [True, True, False])
+        self.assertEqual(
+            [is_equality_paper(LOOP, 1, "x", ("a",), ("run", (0, 1))), fits(LOOP, 1, Pattern(y=("f", 1))),
+             fits(LOOP, 1, Pattern(x=("f", 1)))],
+            [True, True, False])
+        both = Pattern(x=1, y=("f", 1), z=1)
+        self.assertEqual(
+            [equal_names(both), list(equalities(both, (("f", 1),), height=1))],
+            [(("x", "z"), ("y",)), [("x", "z"), ("y", ("f", "x")), ("y", ("f", "z")), (("f", "x"), ("f", "z"))]])
+
+    def test_weakest_conditions(self):
+        self.assertEqual(
+            [weakest(FORK, 1, ("x", ("f", "z"))) == Pattern(x=1, y=2, z=2), weakest(LOOP, 1, ("x", "y")),
+             len(list(condition_rounds(FORK, 1, ("y", "z"))))],
+            [True, None, 2])
+        self.assertEqual(
+            [before(Pattern(x=1, y=("f", 1)), (("y", ("f", "x")),)) == Pattern.free("x", "y"),
+             before(Pattern(x=1, y=1), (("x", 1),))],
+            [True, None])
+        self.assertEqual(
+            [forced(FORK, ((0,),), ("x", ("f", "z"))).holes, is_condition_paper(FORK, 1, (("x", "z"),), ("none", ((0,),))),
+             condition_paper(LOOP, 1, ("x", "y"))[0]],
+            [3, True, "none"])
+
+    def test_models(self):
+        model = Model(2, {("f", 0): 1})
+        self.assertEqual(
+            [model.evaluate(("f", ("f", "x")), x=0), model.values_of(Pattern(x=1, y=("f", 1)), (0,)),
+             model == Model(2, {("f", 1): 0}, other=1), str(model)],
+            [0, {"x": 0, "y": 1}, False, "model of 2 values, 1 entries"])
+        model, holes, reads = failing_model(LOOP, (0, 1), "x", ("a",))
+        self.assertEqual(
+            [model.total <= 3, len(holes), reads, is_failing_model(LOOP, (0,), "x", "y", (Model(2, {("f", 0): 1}), (0, 0), ()))],
+            [True, 2, (), True])
+
+    def test_heights(self):
+        self.assertEqual(
+            [height_paper(LOOP, 1, "x")[0], greatest_height(FORK, 1, "x"), height_after(LOOP, (0, 1, 1), "y"),
+             size_after(LOOP, (0, 1, 1), "y")],
+            ["grows", 1, 3, 4])
+        self.assertIs(is_height_paper(FORK, 1, "y", ("bounded", {(0, "y"): 0, (0, "z"): 0, (1, "y"): 0}, (1,))), True)
 
 
 if __name__ == "__main__":

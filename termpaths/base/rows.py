@@ -108,6 +108,19 @@ def shared(nodes, roots):
     return tuple(rows), tuple([places[root] for root in roots])
 
 
+def below(rows, positions):
+    """Return a dict whose keys are the positions of all parts of the values at some positions."""
+    found = {}
+    todo = list(positions)
+    while todo:
+        position = todo.pop()
+        if position not in found:
+            found[position] = True
+            if isinstance(rows[position], tuple):
+                todo.extend(list(rows[position][1:]))
+    return found
+
+
 def sizes_of(rows):
     """Return the size of the value of each row, as it is written."""
     sizes = []

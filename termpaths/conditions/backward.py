@@ -3,9 +3,9 @@
 All patterns are shapes here, as what is found on the way may have any weight. A goal of None is met by nothing.
 """
 
-from termpaths.base.rows import rows_beside
+from termpaths.base.rows import evaluated, rows_beside
 from termpaths.patterns.shapes import acted, free_shape, is_instance, merged
-from termpaths.programs.tracing import is_read, traced
+from termpaths.programs.tracing import actions_of, is_read, traced
 
 
 def preceding(names, shape, action):
@@ -78,6 +78,19 @@ def _wanted(program, table, changed):
     return wanted
 
 
+def forced_shape(program, runs, equalities):
+    """Return the most general shape at the entry from which the equalities hold after each run, or None."""
+    nodes, spots = free_shape(len(program[0]))
+    here = {name: k for k, name in enumerate(program[0])}
+    terms = [term for pair in equalities for term in pair]
+    pairs = []
+    for run in runs:
+        nodes, places, _ = traced(nodes, here, actions_of(program, run))
+        nodes, found = evaluated(nodes, places, terms)
+        pairs.extend([(found[2 * k], found[2 * k + 1]) for k in range(len(equalities))])
+    return without_reads(merged(nodes, spots, pairs))
+
+
 def exact_conditions(program, point, goal, length):
     """Return a list of what is wanted before paths of exactly 0, 1, .. edges to a point.
 
@@ -98,6 +111,16 @@ def exact_conditions(program, point, goal, length):
 def is_met(table, point, shape):
     """Tell whether a shape meets the condition of a point in a condition table."""
     return point in table and is_instance(table[point], shape)
+
+
+def shortest_failing_path(program, point, goal, start):
+    """Return the smallest one of the shortest runs to a point that do not meet a goal there; there is one."""
+    tables = []
+    for found in condition_steps(program, point, goal):
+        tables.append(found)
+        if not is_met(found, 0, start):
+            break
+    return failing_path(program, tables, start)
 
 
 def failing_path(program, tables, start):

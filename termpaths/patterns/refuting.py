@@ -1,6 +1,6 @@
 """Refutations: lines that show that some equalities have no solution."""
 
-from termpaths.base.rows import evaluated, same_sign, with_holes
+from termpaths.base.rows import below, evaluated, same_sign, with_holes
 
 
 class Proof:
@@ -133,15 +133,7 @@ def _circle(proof, many):
 
 def _holes_below(rows, position):
     """Return the positions of the holes in the value at a position."""
-    found = {}
-    todo = [position]
-    while todo:
-        place = todo.pop()
-        if place not in found:
-            found[place] = True
-            if isinstance(rows[place], tuple):
-                todo.extend(list(rows[place][1:]))
-    return [place for place in found if isinstance(rows[place], int)]
+    return [place for place in below(rows, [position]) if isinstance(rows[place], int)]
 
 
 def _first_in(holes, left):

@@ -68,10 +68,14 @@ def values_read(program, run):
 
 def run_end(program, value):
     """Return the point to which a run of any length leads, or None for a value that is no run."""
+    return path_end(program, 0, value)
+
+
+def path_end(program, point, value):
+    """Return the point to which a path of any length leads from a point, or None for a value that is no path."""
     if not isinstance(value, tuple):
         return None
     edges = program[2]
-    point = 0
     for index in value:
         if not is_index(index, len(edges)) or edges[index][0] != point:
             return None

@@ -1,7 +1,7 @@
 """Failing runs: runs after which two terms differ, or after which the values do not fit a shape."""
 
 from termpaths.base.checks import is_index
-from termpaths.conditions.backward import condition_steps, exact_conditions, failing_path, is_met
+from termpaths.conditions.backward import exact_conditions, shortest_failing_path
 from termpaths.errors import InvalidNumber
 from termpaths.patterns.patterns import moved, shape_of
 from termpaths.patterns.shapes import acted, is_instance
@@ -20,7 +20,7 @@ def shortest_failing(program, point, e, f, *, entry=None):
     found = table(program, entry=start)
     if point not in found or found[point].same(e, f):
         return None
-    return _shortest(program, point, wanted_by_equality(program, e, f), start)
+    return shortest_failing_path(program, point, wanted_by_equality(program, e, f), shape_of(start))
 
 
 def shortest_misfit(program, point, shape, *, entry=None):
@@ -29,7 +29,7 @@ def shortest_misfit(program, point, shape, *, entry=None):
     found = table(program, entry=start)
     if point not in found or fits_shape(shape, found[point].rows, found[point].places):
         return None
-    return _shortest(program, point, wanted_by_shape(program, shape), start)
+    return shortest_failing_path(program, point, wanted_by_shape(program, shape), shape_of(start))
 
 
 def failing_runs(program, point, e, f, *, length, entry=None):
@@ -57,17 +57,6 @@ def failing_lengths(program, point, e, f, *, longest, entry=None):
 def _check_length(value):
     if not is_index(value, MAX_LENGTH + 1):
         raise InvalidNumber(value)
-
-
-def _shortest(program, point, goal, start):
-    """Return the smallest one of the shortest runs to a point that fail; there is one."""
-    shape = shape_of(start)
-    tables = []
-    for one in condition_steps(program, point, goal):
-        tables.append(one)
-        if not is_met(one, 0, shape):
-            break
-    return failing_path(program, tables, shape)
 
 
 def _exact_tables(program, start, longest):

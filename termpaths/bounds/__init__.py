@@ -1,0 +1,1 @@
+"""Bounds of the heights of values."""

@@ -1,0 +1,1 @@
+"""Finite models of the operators."""
