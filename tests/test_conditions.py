@@ -580,7 +580,14 @@ class PaperTest(unittest.TestCase):
                                 ["none", ()], ("None", ()), ("condition", {0: XY, 1: XY}, None), ("none", None), ({}, ())):
             self.assertIs(is_condition_paper(LOOP, 1, (("y", ("f", "x")),), value), False)
             self.assertIs(is_condition_paper(LOOP, 1, (("x", "y"),), value), False)
-        self.assertIs(is_condition_paper(LOOP, 1, (("y", ("f", "x")),), ("condition", {0: XY, 1: Pattern(x=1, y=("f", 1))}, ())), True)
+        right = ("condition", {0: XY, 1: Pattern(x=1, y=("f", 1))}, ())
+        self.assertIs(is_condition_paper(LOOP, 1, (("y", ("f", "x")),), right), True)
+        for word in ("none", "Condition", "", None, 0, ("condition",)):
+            self.assertIs(is_condition_paper(LOOP, 1, (("y", ("f", "x")),), (word,) + right[1:]), False)
+            self.assertIs(is_condition_paper(LOOP, 1, (("x", "y"),), (word, ((0,),), ((0,),))), False)
+            self.assertIs(is_condition_paper(LOOP, 1, (("x", "y"),), (word, {}, ((0,),))), False)
+            self.assertIs(is_condition_paper(LOOP, 1, (("x", "y"),), (word, ((0,),))), word == "none")
+            self.assertIs(is_condition_paper(LOOP, 1, (("x", "y"),), (word,)), False)
 
 
 class ErrorsTest(unittest.TestCase):

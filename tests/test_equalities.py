@@ -203,6 +203,11 @@ class PaperTest(unittest.TestCase):
                            ((0, 1, 0), False), ((0, 2), False), ([0, 1], False), ((0, True), False), ((0, 1) + (1,) * 5000, True)):
             self.assertIs(is_equality_paper(LOOP, 1, "x", ("a",), ("run", run)), right)
             self.assertIs(is_shape_paper(LOOP, 1, Pattern(x=("a",)), ("run", run)), right)
+        for word in ("Run", "rub", "tables", "", None, 0, ("run",)):
+            self.assertIs(is_equality_paper(LOOP, 1, "x", ("a",), (word, (0, 1))), False)
+            self.assertIs(is_shape_paper(LOOP, 1, Pattern(x=("a",)), (word, (0, 1))), False)
+            self.assertIs(is_equality_paper(LOOP, 1, "y", ("f", "x"), (word, table(LOOP))), False)
+            self.assertIs(is_shape_paper(LOOP, 1, self.NEXT, (word, table(LOOP))), False)
         self.assertIs(is_equality_paper(LOOP, 0, "x", "y", ("run", ())), True)
         self.assertIs(is_equality_paper(LOOP, 0, "x", "y", ("run", ()), entry=Pattern(x=1, y=1)), False)
 

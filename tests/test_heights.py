@@ -294,6 +294,21 @@ class JudgeTest(unittest.TestCase):
         ):
             self.assertIs(is_height_paper(FORK, 1, "y", value), False)
 
+    def test_words(self):
+        program = make_program(("x",), (0, (("x", ("s", "x")),), 0), (0, (("x", ("a",)),), 1), size=3)
+        bounded = ({(1, "x"): 0}, (1,))
+        for word in ("grows", "Bounded", "empty", "", None, 0, ("bounded",)):
+            self.assertIs(is_height_paper(program, 1, "x", (word,) + bounded), False)
+            self.assertIs(is_height_paper(program, 2, "x", (word,)), word == "empty")
+            self.assertIs(is_height_paper(program, 0, "x", (word, (), (0,), (), "x")), word == "grows")
+        self.assertIs(is_height_paper(program, 1, "x", ("bounded",) + bounded), True)
+
+    def test_terms_that_the_run_does_not_pass(self):
+        program = make_program(("x",), (0, (("x", ("f", ("f", ("a",)))),), 1), (0, (("x", ("a",)),), 1))
+        self.assertIs(is_height_paper(program, 1, "x", ("bounded", {(1, "x"): 0}, (1,))), False)
+        self.assertIs(is_height_paper(program, 1, "x", ("bounded", {(1, "x"): 2}, (1,))), False)
+        self.assertIs(is_height_paper(program, 1, "x", ("bounded", {(1, "x"): 2}, (0,))), True)
+
     def test_exactly_one_kind(self):
         for seed in range(60):
             program = random_program(seed, points=3, edges=5)

@@ -85,6 +85,8 @@ class MadeTest(unittest.TestCase):
                                 Model(2, {("f", 0): 1}, other=1), 2, "model of 2 values, 1 entries"):
             self.assertFalse(TWO == value)
             self.assertTrue(TWO != value)
+        for size, other in ((3, 2), (4, 0)):
+            self.assertNotEqual(Model(3, {("f", 0): 1}), Model(size, {("f", 0): 1}, other=other))
         # They are not equal, though each gives every operator the same values.
         self.assertNotEqual(Model(1, {}), Model(2, {}))
         first = Model(2, {("a",): 1}, other=0)

@@ -55,7 +55,7 @@ def is_led(masks, source, target):
 
 def growing_flows(flows, masks):
     """Return the flows that put their source deeper, and lead back to it."""
-    return [flow for flow in flows if flow[3] > 0 and (flow[1] == flow[2] or is_led(masks, flow[2], flow[1]))]
+    return [flow for flow in flows if flow[3] > 0 and is_led(masks, flow[2], flow[1])]
 
 
 def grown(pairs, flows, masks):

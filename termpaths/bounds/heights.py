@@ -10,7 +10,7 @@ from termpaths.errors import UnknownName
 from termpaths.patterns.shapes import free_shape
 from termpaths.programs.programs import check_point, check_program, reached_points
 from termpaths.programs.runs import check_run, entry_pattern, path_end, run_end
-from termpaths.programs.tracing import actions_of, traced
+from termpaths.programs.tracing import traced_run
 
 
 def height_after(program, run, name, *, entry=None):
@@ -22,7 +22,7 @@ def height_after(program, run, name, *, entry=None):
 def size_after(program, run, name, *, entry=None):
     """Return the size of the value of a name after a run, as it is written."""
     start = _start_of_run(program, run, name, entry)
-    nodes, places, _ = traced(start.rows, start.places, actions_of(program, run))
+    nodes, places, _ = traced_run(program, run, start.rows, start.places)
     return sizes_of(nodes)[places[name]]
 
 
@@ -96,7 +96,7 @@ def _start_at_point(program, point, name, entry):
 
 
 def _height_behind(program, run, name, start):
-    nodes, places, _ = traced(start.rows, start.places, actions_of(program, run))
+    nodes, places, _ = traced_run(program, run, start.rows, start.places)
     return heights_of(nodes)[places[name]]
 
 
@@ -141,16 +141,14 @@ def _are_bounds(program, value, start):
     if not isinstance(value, dict):
         return False
     reached = reached_points(program)
+    given = _start_heights(start)
     for pair in value:
         if not isinstance(pair, tuple) or len(pair) != 2 or not is_index(pair[0], program[1]):
             return False
         if pair[0] not in reached or pair[1] not in program[0]:
             return False
-        if not is_integer(value[pair]) or value[pair] < 0:
+        if not is_integer(value[pair]) or value[pair] < given.get(pair, 0):
             return False
-    given = _start_heights(start)
-    if not all([value[pair] >= given.get(pair, 0) for pair in value]):
-        return False
     pairs = pairs_of(program)
     for _, target, height in bases_of(program, pairs):
         if pairs[target] in value and value[pairs[target]] < height:
@@ -172,8 +170,8 @@ def _is_growth(program, point, name, value):
         return False
     rows, spots = free_shape(len(program[0]))
     holes = {other: spots[k] for k, other in enumerate(program[0])}
-    nodes, places, _ = traced(rows, holes, actions_of(program, loop))
+    nodes, places, _ = traced_run(program, loop, rows, holes)
     if places[told] == holes[told] or holes[told] not in below(nodes, [places[told]]):
         return False
-    nodes, places, _ = traced(rows, holes, actions_of(program, after))
+    nodes, places, _ = traced_run(program, after, rows, holes)
     return holes[told] in below(nodes, [places[name]])

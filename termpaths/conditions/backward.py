@@ -5,7 +5,7 @@ All patterns are shapes here, as what is found on the way may have any weight. A
 
 from termpaths.base.rows import evaluated, rows_beside
 from termpaths.patterns.shapes import acted, free_shape, is_instance, merged
-from termpaths.programs.tracing import actions_of, is_read, traced
+from termpaths.programs.tracing import is_read, traced, traced_run
 
 
 def preceding(names, shape, action):
@@ -24,7 +24,7 @@ def narrowed(names, shape, wanted):
     here = {name: spots[k] for k, name in enumerate(names)}
     pairs = []
     for action, goal in wanted:
-        nodes, places, _ = traced(nodes, here, [action])
+        nodes, places, _ = traced(nodes, here, [action], (0,))
         behind = len(nodes)
         nodes = rows_beside(nodes, goal[0])
         pairs.extend([(places[name], goal[1][k] + behind) for k, name in enumerate(names)])
@@ -85,7 +85,7 @@ def forced_shape(program, runs, equalities):
     terms = [term for pair in equalities for term in pair]
     pairs = []
     for run in runs:
-        nodes, places, _ = traced(nodes, here, actions_of(program, run))
+        nodes, places, _ = traced_run(program, run, nodes, here)
         nodes, found = evaluated(nodes, places, terms)
         pairs.extend([(found[2 * k], found[2 * k + 1]) for k in range(len(equalities))])
     return without_reads(merged(nodes, spots, pairs))

@@ -7,7 +7,7 @@ from termpaths.errors import InvalidModel, InvalidNumber, InvalidOperation, Inva
 from termpaths.patterns.patterns import check_pattern
 from termpaths.programs.programs import check_program
 from termpaths.programs.runs import check_run, entry_pattern, state_after, values_read
-from termpaths.programs.tracing import actions_of, is_read, traced
+from termpaths.programs.tracing import actions_of, is_read, traced_run
 
 MAX_MODEL = 200
 MAX_ARITY = 3
@@ -147,7 +147,7 @@ def is_separating_model(pattern, e, f, value):
 def failing_model(program, run, e, f, *, entry=None):
     """Return a model, values for the holes at the entry, and values to read, for which two terms differ after a run."""
     start = _start_of_run(program, run, e, f, entry)
-    nodes, places, read = traced(start.rows, start.places, actions_of(program, run))
+    nodes, places, read = traced_run(program, run, start.rows, start.places)
     nodes, spots = evaluated(nodes, places, (e, f))
     numbers = _numbers_of(nodes, spots)
     return _model_of(nodes, numbers), _values_at(numbers, _places_of_holes(start)), _values_at(numbers, read)

@@ -7,7 +7,7 @@ from termpaths.conditions.backward import shortest_failing_path
 from termpaths.errors import InvalidNumber, InvalidOperation, TooLarge
 from termpaths.patterns.patterns import check_pattern, shape_of
 from termpaths.programs.runs import run_end
-from termpaths.programs.tracing import actions_of, traced
+from termpaths.programs.tracing import traced_run
 from termpaths.questions.asked import (
     fits_shape, start_of_equality, start_of_shape, wanted_by_equality, wanted_by_shape,
 )
@@ -42,7 +42,7 @@ def is_equality_paper(program, point, e, f, value, *, entry=None):
         return is_closed(program, value[1], entry=start) and _is_equal_in(value[1], point, e, f)
     if value[0] != "run" or run_end(program, value[1]) != point:
         return False
-    nodes, places, _ = traced(start.rows, start.places, actions_of(program, value[1]))
+    nodes, places, _ = traced_run(program, value[1], start.rows, start.places)
     _, spots = evaluated(nodes, places, (e, f))
     return spots[0] != spots[1]
 
@@ -71,7 +71,7 @@ def is_shape_paper(program, point, shape, value, *, entry=None):
         return is_closed(program, value[1], entry=start) and _is_fitting_in(value[1], point, shape)
     if value[0] != "run" or run_end(program, value[1]) != point:
         return False
-    nodes, places, _ = traced(start.rows, start.places, actions_of(program, value[1]))
+    nodes, places, _ = traced_run(program, value[1], start.rows, start.places)
     return not fits_shape(shape, nodes, places)
 
 
