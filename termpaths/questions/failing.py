@@ -62,15 +62,29 @@ def _check_length(value):
 def _exact_tables(program, start, longest):
     """Yield for 0, 1, .. edges the common patterns of all runs with exactly so many, as dicts from points."""
     found = {0: start}
+    changed = {0: True}
+    kept = {}
     yield found
     for _ in range(longest):
-        made = {}
-        for first, action, last in program[2]:
-            if first in found:
-                reached = moved(found[first], action)
-                made[last] = made[last] | reached if last in made else reached
+        made = _behind_one_edge(program, found, changed, kept)
+        changed = {point: True for point in range(program[1]) if made.get(point) != found.get(point)}
         found = made
+        kept = made
         yield found
+
+
+def _behind_one_edge(program, found, changed, kept):
+    """Return the common patterns of all runs with one edge more than those of the found ones.
+
+    Only what is behind a point that has changed with the last edge is another one than it was; the rest is kept.
+    """
+    stale = {last: True for first, _, last in program[2] if first in changed}
+    made = {point: kept[point] for point in kept if point not in stale}
+    for first, action, last in program[2]:
+        if last in stale and first in found:
+            reached = moved(found[first], action)
+            made[last] = made[last] | reached if last in made else reached
+    return made
 
 
 def _failing_paths(program, layers, start):
