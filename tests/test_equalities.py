@@ -9,6 +9,8 @@ from tests.hand import (
 from tests.reference import STRANGE, numbered, powers, random_term, random_values, rng, stepped
 from tests.test_failing import SAME, TEN, WRONG_TERMS, all_but, ring
 from tests.test_programs import WRONG_PROGRAMS
+from termpaths.bounds.heights import heights
+from termpaths.conditions.conditions import weakest
 from termpaths.base.terms import height_of, is_term, size_of, text_of
 from termpaths.errors import (
     InvalidNumber, InvalidOperation, InvalidPattern, InvalidProgram, InvalidTerm, TooLarge,
@@ -158,6 +160,38 @@ class HoldsTest(unittest.TestCase):
                 if found[0] == "run":
                     self.assertEqual(equality_paper(renamed, point, valued(e, other), valued(f, other)), found)
                     self.assertEqual(equality_paper(turned, (0, 3, 1, 2)[point], e, f), found)
+
+
+    def test_operators_renamed(self):
+        # The operators change their names in a circle, so that the order of the operators changes, too.
+        other = {"a": "f", "f": "g", "g": "s", "h": "a", "s": "b", "b": "h"}
+        for seed in range(60):
+            program = random_program(seed, points=3, edges=5, height=2)
+            edges = tuple((a, tuple((name, resigned(term, other)) for name, term in action), b) for a, action, b in program[2])
+            changed = program_from(NAMES, edges, size=3)
+            one = rng(seed)
+            values = random_values(one, NAMES, 2, 1)
+            entry, start = pattern(values), pattern({name: resigned(values[name], other) for name in NAMES})
+            e, f = random_term(one, NAMES, 1), random_term(one, NAMES, 1)
+            twin = (resigned(e, other), resigned(f, other))
+            self.assertEqual(resigned_table(table(program, entry=entry), other), resigned_table(table(changed, entry=start), {}))
+            self.assertEqual(shortest_failing(program, 1, e, f, entry=entry), shortest_failing(changed, 1, *twin, entry=start))
+            self.assertEqual(heights(program, entry=entry), heights(changed, entry=start))
+            found, again = weakest(program, 1, (e, f)), weakest(changed, 1, twin)
+            self.assertEqual(resigned_table({} if found is None else {0: found}, other), resigned_table({} if again is None else {0: again}, {}))
+
+
+def resigned(term, other):
+    """Return a term with other operators."""
+    if isinstance(term, tuple):
+        return (other.get(term[0], term[0]),) + tuple(resigned(inner, other) for inner in term[1:])
+    return term
+
+
+def resigned_table(found, other):
+    """Return the rows and places of the patterns of a table, with other operators."""
+    return {point: (tuple((other.get(row[0], row[0]),) + row[1:] if isinstance(row, tuple) else row for row in found[point].rows),
+                    found[point].places) for point in found}
 
 
 class PaperTest(unittest.TestCase):

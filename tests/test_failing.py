@@ -15,6 +15,7 @@ from termpaths.patterns.patterns import Pattern
 from termpaths.programs.programs import make_program, program_from
 from termpaths.programs.runs import is_run, state_after
 from termpaths.questions import failing as module
+from termpaths.questions.equalities import holds
 from termpaths.questions.failing import failing_lengths, failing_runs, shortest_failing, shortest_misfit
 from termpaths.tables.tables import table
 
@@ -268,6 +269,24 @@ class LengthsTest(unittest.TestCase):
             self.assertEqual(list(failing_runs(TURN, 1, "x", "y", length=length, entry=SAME)), [])
         for length in (2, 3, 59, 60):
             self.assertEqual(list(failing_runs(TURN, 1, "x", "y", length=length, entry=SAME)), [(0,) * (length - 1) + (1,)])
+
+    def test_against_a_program_without_loops(self):
+        # The point u of the layer k of the other program is reached by the runs with exactly k edges that lead to u.
+        shown = set()
+        for seed in range(150):
+            program = random_program(seed, points=4, edges=5 + seed % 3, height=seed % 2)
+            layers = tuple((4 * k + a, action, 4 * k + 4 + b) for k in range(13) for a, action, b in program[2])
+            unrolled = program_from(NAMES, layers, size=56)
+            one = rng(seed)
+            entry = pattern(random_values(one, NAMES, 2, 1))
+            e, f = random_term(one, NAMES, seed % 2), random_term(one, NAMES, 0)
+            expected = tuple(k for k in range(14) if not holds(unrolled, 4 * k + 1, e, f, entry=entry))
+            self.assertEqual(failing_lengths(program, 1, e, f, longest=13, entry=entry), expected)
+            shown.add(expected)
+            for k in (11, 12, 13):
+                found = failing_runs(program, 1, e, f, length=k, entry=entry)
+                self.assertIs(next(found, None) is not None, k in expected)
+        self.assertGreater(len(shown), 10)
 
     def test_in_part(self):
         program = make_program(("x", "y"), (0, (("x", ("f", "x")),), 0), (0, (("y", ("f", "y")),), 0))

@@ -39,8 +39,8 @@ def bases_of(program, pairs):
 def leads_of(pairs, flows):
     """Return for each pair a number whose bits tell the pairs into which it goes along one or more flows."""
     masks = [0] * len(pairs)
-    for _, source, target, _ in flows:
-        masks[source] = masks[source] | (1 << target)
+    for flow in flows:
+        masks[flow[1]] = masks[flow[1]] | (1 << flow[2])
     for middle in range(len(pairs)):
         for k in range(len(pairs)):
             if is_led(masks, k, middle):
@@ -61,8 +61,8 @@ def growing_flows(flows, masks):
 def grown(pairs, flows, masks):
     """Return for each pair whether its name grows there."""
     mask = 0
-    for _, source, _, _ in growing_flows(flows, masks):
-        mask = mask | masks[source]
+    for flow in growing_flows(flows, masks):
+        mask = mask | masks[flow[1]]
     return [(mask >> k) & 1 == 1 for k in range(len(pairs))]
 
 

@@ -46,7 +46,7 @@ def traced(rows, places, actions, order):
 
 def traced_run(program, run, rows, places):
     """Return the same as traced for the actions of the edges of a run, or of any path."""
-    return traced(rows, places, [action for _, action, _ in program[2]], run)
+    return traced(rows, places, [edge[1] for edge in program[2]], run)
 
 
 def _taken_apart(action):
