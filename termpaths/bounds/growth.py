@@ -6,12 +6,12 @@ there. A base (edge, target, height) tells the height of a term as if all its le
 """
 
 from termpaths.base.terms import height_of, names_in
-from termpaths.programs.programs import reached_points
+from termpaths.programs.programs import reached_in
 
 
 def pairs_of(program):
     """Return all pairs of a point that runs reach and a name, ascending."""
-    return [(point, name) for point in reached_points(program) for name in program[0]]
+    return [(point, name) for point in reached_in(program) for name in program[0]]
 
 
 def flows_of(program, pairs):
@@ -122,7 +122,7 @@ def _ways_from(start, steps):
 
 def _passed_edges(program):
     """Return the edges from points that runs reach, with their indices."""
-    reached = reached_points(program)
+    reached = reached_in(program)
     return [(index, edge) for index, edge in enumerate(program[2]) if edge[0] in reached]
 
 

@@ -8,7 +8,7 @@ from termpaths.bounds.growth import (
 )
 from termpaths.errors import UnknownName
 from termpaths.patterns.shapes import free_shape
-from termpaths.programs.programs import check_point, check_program, reached_points
+from termpaths.programs.programs import check_point, check_program, reached_in
 from termpaths.programs.runs import check_run, entry_pattern, path_end, run_end
 from termpaths.programs.tracing import traced_run
 
@@ -51,7 +51,7 @@ def is_height_paper(program, point, name, value, *, entry=None):
     if not isinstance(value, tuple) or not value:
         return False
     if len(value) == 1:
-        return value[0] == "empty" and point not in reached_points(program)
+        return value[0] == "empty" and point not in reached_in(program)
     if len(value) == 3 and value[0] == "bounded" and run_end(program, value[2]) == point:
         if not _are_bounds(program, value[1], start) or (point, name) not in value[1]:
             return False
@@ -71,7 +71,7 @@ def heights(program, *, entry=None):
     """Return for each point that runs reach the greatest heights of all names, or None for those that grow."""
     check_program(program)
     results = _results(program, entry_pattern(program, entry))
-    return {point: {name: results[(point, name)] for name in program[0]} for point in reached_points(program)}
+    return {point: {name: results[(point, name)] for name in program[0]} for point in reached_in(program)}
 
 
 def _check_name(program, name):
@@ -140,7 +140,7 @@ def _are_bounds(program, value, start):
     """Tell whether a value is a dict of numbers that bound the heights of all its pairs."""
     if not isinstance(value, dict):
         return False
-    reached = reached_points(program)
+    reached = reached_in(program)
     given = _start_heights(start)
     for pair in value:
         if not isinstance(pair, tuple) or len(pair) != 2 or not is_index(pair[0], program[1]):

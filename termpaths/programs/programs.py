@@ -48,15 +48,7 @@ def program_from(names, edges, *, size=None):
 def reached_points(program):
     """Return the points to which runs lead, ascending."""
     check_program(program)
-    reached = {0: True}
-    todo = [0]
-    while todo:
-        point = todo.pop()
-        for first, _, last in program[2]:
-            if first == point and last not in reached:
-                reached[last] = True
-                todo.append(last)
-    return tuple(sorted(set(reached)))
+    return reached_in(program)
 
 
 def edges_from(program, point):
@@ -125,6 +117,19 @@ def check_point(program, point):
     """Raise InvalidNumber for what is not a point of a program."""
     if not is_index(point, program[1]):
         raise InvalidNumber(point)
+
+
+def reached_in(program):
+    """Return the points to which runs lead, for what is known to be a program: it is not checked again."""
+    reached = {0: True}
+    todo = [0]
+    while todo:
+        point = todo.pop()
+        for first, _, last in program[2]:
+            if first == point and last not in reached:
+                reached[last] = True
+                todo.append(last)
+    return tuple(sorted(set(reached)))
 
 
 def _is_edge(names, size, value):

@@ -29,9 +29,7 @@ def rounds(program, *, entry=None):
 def is_table(program, value):
     """Tell whether a value is a table of a program."""
     check_program(program)
-    if not isinstance(value, dict):
-        return False
-    return all([_is_entry_of_table(program, point, value[point]) for point in value])
+    return _is_table_of(program, value)
 
 
 def is_closed(program, value, *, entry=None):
@@ -47,7 +45,7 @@ def joined_tables(program, first, second):
     """Return the join of two tables."""
     check_program(program)
     for one in (first, second):
-        if not is_table(program, one):
+        if not _is_table_of(program, one):
             raise InvalidTable("not a table of the program")
     made = {}
     for point in sorted(set([*first, *second])):
@@ -60,7 +58,7 @@ def joined_tables(program, first, second):
 
 def is_closed_table(program, value):
     """Tell whether a value is a closed table of a program, whatever it covers."""
-    if not is_table(program, value):
+    if not _is_table_of(program, value):
         return False
     shapes = {point: shape_of(value[point]) for point in value}
     for first, action, last in program[2]:
@@ -69,6 +67,12 @@ def is_closed_table(program, value):
             if last not in shapes or not is_instance(shapes[last], acted(program[0], shapes[first], action)):
                 return False
     return True
+
+
+def _is_table_of(program, value):
+    if not isinstance(value, dict):
+        return False
+    return all([_is_entry_of_table(program, point, value[point]) for point in value])
 
 
 def _is_entry_of_table(program, point, pattern):
