@@ -6,7 +6,7 @@ import unittest
 from tests.hand import (
     FORK, LOOP, NAMES, TURN, form, forms, pattern, random_program, rounds_by_hand,
 )
-from tests.reference import STRANGE, numbered, powers, random_values, rng, shared_form
+from tests.reference import STRANGE, powers, random_values, rng, shared_form
 from tests.test_programs import WRONG_PROGRAMS
 from termpaths.errors import InvalidPattern, InvalidProgram, InvalidTable, TooLarge
 from termpaths.patterns.patterns import Pattern

@@ -70,6 +70,7 @@ def is_closed_table(program, value):
 
 
 def _is_table_of(program, value):
+    """Tell whether a value is a table of what is known to be a program."""
     if not isinstance(value, dict):
         return False
     return all([_is_entry_of_table(program, point, value[point]) for point in value])
