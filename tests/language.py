@@ -99,7 +99,7 @@ class Reader:
             for kind, look in (
                 (ast.FunctionDef, self.function), (ast.ClassDef, self.class_), (ast.Call, self.call), (ast.Name, self.name),
                 (ast.Compare, self.compare), (ast.Raise, self.raised), (ast.Constant, self.constant), (ast.For, self.loop),
-                (ast.arg, self.argument), (ast.Starred, self.starred),
+                (ast.arg, self.argument), (ast.Starred, self.starred), (ast.Subscript, self.index),
             ):
                 if isinstance(node, kind):
                     look(node)
@@ -192,6 +192,11 @@ class Reader:
                 self.tell(node, "L17: a word in a string")
             if node.value.startswith("__") or node.value.endswith(("._", ".__")):
                 self.tell(node, "L27: a string")
+
+    def index(self, node):
+        for part in ast.walk(node.slice):
+            if isinstance(part, ast.Starred):
+                self.tell(part, "L7: a star in an index")
 
     def starred(self, node):
         parent = self.parents[node]

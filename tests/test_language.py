@@ -85,6 +85,8 @@ class ReaderTest(unittest.TestCase):
             "def f(xs):\n    ys = xs\n    ys.append(1)", "class A:\n    def __hash__(self):\n        return 1",
             "def f():\n" + "    pass\n" * 40, "def f(n):\n    n -= 1", "def f(_):\n    return _", "def f(x: int = 1.5):\n    return x",
             "class A:\n    def __getitem__(self, k):\n        return k", "def f(d):\n    return d.items()",
+            "def f(d, xs):\n    return d[(1, *xs)]", "def f(d, xs):\n    return d[1, *xs]", "def f(xs):\n    d = {}\n    d[(*xs, 1)] = 2",
+            "def f(d, xs):\n    return d[g([1, *xs])]", "def f(d, xs):\n    return d[xs[0]:(*xs, 1)]",
         ):
             self.assertNotEqual(problems_of_tree(ast.parse(text), set()), [], text)
 

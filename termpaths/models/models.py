@@ -217,7 +217,8 @@ def _model_of(nodes, numbers):
     for position in numbers:
         row = nodes[position]
         if isinstance(row, tuple) and not is_read(row):
-            entries[(row[0], *[numbers[inner] for inner in row[1:]])] = numbers[position]
+            key = (row[0], *[numbers[inner] for inner in row[1:]])
+            entries[key] = numbers[position]
     return Model(len(numbers) + 1, entries, other=len(numbers))
 
 
