@@ -1,6 +1,6 @@
 """Finds code that leaves the subset of Python in which the package is written.
 
-It looks for less than the subset allows: what the package does not use (lambdas, nested functions, try, with, match,
+It looks for less than the subset allows: what the package does not use (lambdas, nested functions, with, match,
 generator expressions ..) is told as a problem, too.
 """
 
@@ -15,13 +15,17 @@ BUILTINS = {
 }
 METHODS = {
     "append", "clear", "copy", "count", "endswith", "extend", "find", "get", "index", "insert", "items", "join", "keys",
-    "pop", "remove", "reverse", "setdefault", "split", "startswith", "strip", "update", "values",
+    "partition", "pop", "remove", "removeprefix", "replace", "reverse", "setdefault", "split", "startswith", "strip",
+    "update", "values",
 }
 CHANGING = {"append", "clear", "extend", "insert", "pop", "remove", "reverse", "setdefault", "update", "sort"}
 SPECIAL = {
     "__init__", "__eq__", "__str__", "__len__", "__call__", "__iter__", "__lt__", "__le__", "__gt__", "__ge__", "__or__",
-    "__ror__", "__and__", "__rand__", "__contains__", "__getitem__",
+    "__ror__", "__and__", "__rand__", "__contains__", "__getitem__", "__enter__", "__exit__",
 }
+# The classes whose methods change their own objects, and the special methods that may do so.
+CHANGEABLE = {"Proof", "Store", "Shell"}
+CHANGING_SPECIAL = {"__init__", "__enter__", "__exit__"}
 BANNED_NAMES = {
     "register", "mro", "elements", "open", "input", "law", "version_info", "eval", "exec", "exit", "dir", "vars", "id",
     "help", "compile", "license", "globals", "locals", "super", "os", "sys", "gc", "quit", "copyright", "credits",
@@ -31,7 +35,7 @@ BANNED_WORDS = {
     "contextmanager", "metaclass", "Meta", "_wall", "_WallAttr",
 }
 NOT_USED = (
-    ast.Lambda, ast.Try, ast.With, ast.Global, ast.Nonlocal, ast.Match, ast.AsyncFunctionDef, ast.GeneratorExp, ast.SetComp,
+    ast.Lambda, ast.With, ast.TryStar, ast.Global, ast.Nonlocal, ast.Match, ast.AsyncFunctionDef, ast.GeneratorExp, ast.SetComp,
     ast.NamedExpr, ast.Await, ast.AnnAssign, ast.Delete, ast.Import, ast.AsyncFor, ast.Div, ast.MatMult,
     ast.AsyncWith, ast.Set,
 )
@@ -72,6 +76,37 @@ def plain(node):
     return called(node, "len", "int", "str") or isinstance(node, (ast.Constant, ast.JoinedStr))
 
 
+def simple(node):
+    """Tell whether a node is what may be assigned in a finally or an __exit__."""
+    return isinstance(node, (ast.Name, ast.Constant)) or isinstance(node, ast.Attribute) and simple(node.value)
+
+
+def asks_for_none(node):
+    """Tell whether a node asks whether a name or an attribute is None."""
+    return (isinstance(node, ast.Compare) and simple(node.left) and len(node.ops) == 1
+            and isinstance(node.ops[0], (ast.Is, ast.IsNot)) and getattr(node.comparators[0], "value", 0) is None)
+
+
+def only_assigns(rows):
+    """Tell whether rows only assign what is simple, also if something is None."""
+    for row in rows:
+        if isinstance(row, ast.If):
+            if not asks_for_none(row.test) or not only_assigns(row.body + row.orelse):
+                return False
+        elif not isinstance(row, ast.Assign) or len(row.targets) != 1:
+            return False
+        elif not simple(row.targets[0]) or not simple(row.value):
+            return False
+    return True
+
+
+def table_value(node):
+    """Tell whether a node is a value of a table at module level: a constant, a function, or a tuple of constants."""
+    if isinstance(node, ast.Tuple):
+        return all(isinstance(part, ast.Constant) for part in node.elts)
+    return isinstance(node, (ast.Constant, ast.Name))
+
+
 class Reader:
     """Collects the problems of the file that a tree is of.
 
@@ -99,14 +134,16 @@ class Reader:
             for kind, look in (
                 (ast.FunctionDef, self.function), (ast.ClassDef, self.class_), (ast.Call, self.call), (ast.Name, self.name),
                 (ast.Compare, self.compare), (ast.Raise, self.raised), (ast.Constant, self.constant), (ast.For, self.loop),
-                (ast.arg, self.argument), (ast.Starred, self.starred), (ast.Subscript, self.index),
+                (ast.arg, self.argument), (ast.Starred, self.starred), (ast.Subscript, self.index), (ast.Try, self.tried),
             ):
                 if isinstance(node, kind):
                     look(node)
         return self.found
 
     def top(self, node):
-        plain_value = isinstance(node, ast.Assign) and len(node.targets) == 1 and isinstance(node.value, ast.Constant)
+        plain_value = isinstance(node, ast.Assign) and self.plain_value(node.value)
+        if plain_value and (len(node.targets) != 1 or not isinstance(node.targets[0], ast.Name)):
+            self.tell(node, "L3: several names at once")
         docstring = isinstance(node, ast.Expr) and isinstance(node.value, ast.Constant)
         if not plain_value and not docstring and not isinstance(node, (ast.ImportFrom, ast.FunctionDef, ast.ClassDef)):
             self.tell(node, "L3: not at module level")
@@ -114,7 +151,22 @@ class Reader:
             if not node.module.startswith("termpaths.") or node.level or any(alias.asname for alias in node.names):
                 self.tell(node, "L2: import")
 
+    def plain_value(self, node):
+        if isinstance(node, ast.Dict):
+            return all(isinstance(key, ast.Constant) for key in node.keys) and all(map(table_value, node.values))
+        return isinstance(node, (ast.Constant, ast.Tuple)) and table_value(node)
+
+    def tried(self, node):
+        for handler in node.handlers:
+            # All errors that a file imports are the package's own.
+            if not isinstance(handler.type, ast.Name) or handler.type.id not in self.imports:
+                self.tell(handler, "L19: an error that is not the package's own")
+        if not only_assigns(node.finalbody):
+            self.tell(node, "L6: finally")
+
     def function(self, node):
+        if node.name == "__exit__" and not only_assigns(node.body):
+            self.tell(node, "L6: __exit__")
         if node.end_lineno - node.lineno + 1 > 40:
             self.tell(node, "L10: the function is too long")
         parent = self.parents[node]
@@ -275,7 +327,7 @@ class Reader:
 class Changes:
     """Looks at what a function changes: only what it made itself, so that every operator can call it.
 
-    The class Proof is the only one whose methods change their own object; no operator comes there.
+    The methods of a few classes change their own objects; no operator, property or the like comes there.
     """
 
     def __init__(self, reader, function):
@@ -307,7 +359,7 @@ class Changes:
 
     def read(self):
         parent = self.reader.parents[self.function]
-        own = isinstance(parent, ast.ClassDef) and (parent.name == "Proof" or self.function.name == "__init__")
+        own = isinstance(parent, ast.ClassDef) and self.changes_its_own(parent.name)
         for node in ast.walk(self.function):
             if isinstance(node, ast.Call) and isinstance(node.func, ast.Attribute) and node.func.attr in CHANGING:
                 self.change(node, node.func.value, own)
@@ -321,6 +373,11 @@ class Changes:
                 number = isinstance(node.value, ast.Constant) and isinstance(node.value.value, int)
                 if not isinstance(node.op, ast.Add) or not number or not isinstance(node.target, ast.Name):
                     self.reader.tell(node, "L5: +=")
+
+    def changes_its_own(self, name):
+        if self.function.name.startswith("__"):
+            return self.function.name in CHANGING_SPECIAL
+        return name in CHANGEABLE and not self.function.decorator_list
 
     def change(self, node, what, own):
         if own and isinstance(what, ast.Attribute) and isinstance(what.value, ast.Name) and what.value.id == "self":

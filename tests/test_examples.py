@@ -4,11 +4,15 @@ import unittest
 
 from tests.hand import FORK, LOOP, TURN
 from termpaths.base.terms import height_of, parts_of, put, size_of
+from termpaths.bounds.cheapest import cheapest, cheapest_steps, cost_of
 from termpaths.bounds.heights import greatest_height, height_after, height_paper, is_height_paper, size_after
 from termpaths.conditions.conditions import (
     before, condition_paper, condition_rounds, forced, is_condition_paper, weakest,
 )
 from termpaths.models.models import Model, failing_model, is_failing_model
+from termpaths.optimizer.optimizer import needed, optimized, program_cost, removed, replaced
+from termpaths.pairs.following import following_paper, follows
+from termpaths.pairs.pairs import agree, agreement_paper, paired
 from termpaths.patterns.matching import is_misfit, match
 from termpaths.patterns.patterns import Pattern
 from termpaths.patterns.solving import is_solving_paper, solved
@@ -17,7 +21,11 @@ from termpaths.programs.runs import end_of, runs, state_after
 from termpaths.programs.statements import statement_program
 from termpaths.questions.equalities import equal_names, equalities, fits, holds, is_equality_paper
 from termpaths.questions.failing import failing_lengths, failing_runs, shortest_failing
+from termpaths.store.store import Store
 from termpaths.tables.tables import rounds, table
+from termpaths.text.formats import format_pattern, format_program, parse_action
+from termpaths.text.shell import Shell
+from termpaths.text.tables import table_text
 
 
 class ExamplesTest(unittest.TestCase):
@@ -130,6 +138,57 @@ class ExamplesTest(unittest.TestCase):
              size_after(LOOP, (0, 1, 1), "y")],
             ["grows", 1, 3, 4])
         self.assertIs(is_height_paper(FORK, 1, "y", ("bounded", {(0, "y"): 0, (0, "z"): 0, (1, "y"): 0}, (1,))), True)
+
+    def test_cheapest_terms(self):
+        known = Pattern(x=1, y=("f", 1))
+        self.assertEqual(
+            [cheapest(known, ("g", ("f", "x"), ("f", ("f", "x")))), cost_of(("g", ("h", "x"), ("h", "x")), costs={"h": 5}),
+             cheapest_steps(known, ("g", ("h", "x"), ("h", "x")))],
+            [("g", "y", ("f", "y")), 11, (("h", "x"), ("g", 1, 1))])
+
+    def test_pairs_of_programs(self):
+        short = make_program(("x", "y", "z"), (0, (("x", ("f", "z")), ("y", "z")), 1), (0, (), 2), (2, (("x", ("f", "y")),), 1))
+        self.assertEqual(
+            [follows(FORK, short, (0, None, 1)), following_paper(FORK, short, (0, 1, 1))[0],
+             following_paper(FORK, short, (0, None, None))[0]],
+            [True, "lost", "stuck"])
+        self.assertEqual(
+            [paired(FORK, short, (0, None, 1))[1], agree(FORK, short, (0, None, 1), ((1, 1, "x", "x"),)),
+             agreement_paper(FORK, short, (0, None, 1), ((1, 1, "x", "z"),))[0]],
+            [((0, 0), (0, 2), (1, 1)), True, "differ"])
+
+    def test_optimizer(self):
+        twice = make_program(("x", "y", "z"), (0, (("x", ("f", "z")),), 1), (1, (("y", ("g", ("f", "z"))),), 2),
+                             (2, (("x", ("h", "x")),), 2))
+        self.assertEqual(optimized(twice, ((2, "y"),))[2], ((0, (("x", ("f", "z")),), 1), (1, (("y", ("g", "x")),), 2), (2, (), 2)))
+        self.assertEqual(
+            [program_cost(twice), program_cost(replaced(twice)), needed(twice, ((1, "x"),)), removed(twice, ((2, "z"),))[2][1]],
+            [4, 3, ((0, "z"), (1, "x")), (1, (), 2)])
+
+    def test_store(self):
+        store = Store()
+        self.assertEqual(store.apply(("put", "loop", LOOP), ("assert", ("equal", "loop", 1, "y", ("f", "x")))), 1)
+        self.assertEqual(store.apply(("edge", "loop", (1, (("y", "x"),), 1))), 2)
+        self.assertEqual(
+            [store.status(0), store.undo(), store.status(0), str(store)],
+            [("broken", (0, 2)), 1, ("kept",), "store with 1 programs, 1 assertions"])
+
+    def test_texts(self):
+        self.assertEqual(
+            [format_program(FORK), format_pattern(Pattern(x=7, y=("f", 7, ("a",))))],
+            ["names x y z\npoints 2\n0 -> 1: x := f(z); y := z\n0 -> 1: x := f(y)", "x = ?1; y = f(?1, a())"])
+        self.assertEqual(parse_action("x := ?1; y := ?1"), (("x", 1), ("y", 1)))
+        self.assertEqual(table_text(LOOP, table(LOOP)), "  0: x = ?1; y = ?2\n  1: x = ?1; y = f(?1)")
+
+    def test_shell(self):
+        shell = Shell()
+        self.assertEqual(
+            shell.run_all("put fork names x y z / points 2 / 0 -> 1: x := f(z); y := z / 0 -> 1: x := f(y)", "holds fork 1 x = f(y)",
+                          "weakest fork 1 x = f(z)", "equal fork 1 x = f(y)", "status", "greatest fork 1 x"),
+            ("ok", "yes", "x = ?1; y = ?2; z = ?2", "ok", "kept", "1"))
+        self.assertEqual(
+            shell.run_all("edge fork 0 -> 1: skip", "status", "failing fork 1 x = f(y)", "cheapest fork 1 g(f(x))", "undo 1", "state fork 1"),
+            ("ok", "broken", "2", "g(f(x))", "ok", "x = f(?1); y = ?1; z = ?2"))
 
 
 if __name__ == "__main__":

@@ -37,7 +37,8 @@ class PackageTest(unittest.TestCase):
         generators = own_generators(self.trees.values())
         for name, tree in self.trees.items():
             found = problems_of_text(self.texts[name]) + problems_of_tree(tree, methods, generators)
-            self.assertEqual(found, [], name)
+            with self.subTest(name):
+                self.assertEqual(found, [])
 
     def test_generators(self):
         names = [node.name for tree in self.trees.values() for node in ast.walk(tree) if isinstance(node, ast.FunctionDef)]
@@ -87,6 +88,12 @@ class ReaderTest(unittest.TestCase):
             "class A:\n    def __getitem__(self, k):\n        return k", "def f(d):\n    return d.items()",
             "def f(d, xs):\n    return d[(1, *xs)]", "def f(d, xs):\n    return d[1, *xs]", "def f(xs):\n    d = {}\n    d[(*xs, 1)] = 2",
             "def f(d, xs):\n    return d[g([1, *xs])]", "def f(d, xs):\n    return d[xs[0]:(*xs, 1)]",
+            "def f(x):\n    try:\n        g(x)\n    finally:\n        h(x)", "X = {1: [2]}", "X = [1]", "X = {1: {2: 3}}",
+            "def f(x, y):\n    try:\n        g(x)\n    finally:\n        if x > 1:\n            y = 2",
+            "class Store:\n    @property\n    def f(self):\n        self.n = 1", "class A:\n    def f(self):\n        self.n = 1",
+            "class Store:\n    def __len__(self):\n        self.n = 1", "class Store:\n    def f(self, x):\n        x.n = 1",
+            "class Store:\n    def __exit__(self, kind, value, trace):\n        self.rows.append(1)",
+            "from termpaths.errors import A\ndef f():\n    try:\n        pass\n    except (A, KeyError):\n        pass",
         ):
             self.assertNotEqual(problems_of_tree(ast.parse(text), set()), [], text)
 
@@ -95,6 +102,17 @@ class ReaderTest(unittest.TestCase):
             self.assertNotEqual(problems_of_tree(ast.parse(text), set(), {"g"}), [], text)
         text = "def f(xs):\n    for x in g(xs):\n        yield x\n    yield from g(xs)"
         self.assertEqual(problems_of_tree(ast.parse(text), set(), {"g", "f"}), [])
+
+    def test_tries_and_tables(self):
+        for text in (
+            "from termpaths.errors import A\ndef f(x):\n    try:\n        x = g(x)\n    except A:\n        raise B(x)\n    return x",
+            "def f(x, y):\n    try:\n        y = g(x)\n    finally:\n        if y is None:\n            y = x\n    return y",
+            "def f(x):\n    return x\nX = {'a': f, 'b': (1, 'c')}\nY = ('d', 2)",
+            "class Store:\n    def f(self, x):\n        self.n = x\n        self.rows.append(x)",
+            "class Store:\n    def __exit__(self, kind, value, trace):\n        one = self.one\n        if kind is not None:\n"
+            "            self.two = one.two\n        self.one = one.one",
+        ):
+            self.assertEqual(problems_of_tree(ast.parse(text), {"f"}), [], text)
 
     def test_nothing_is_found(self):
         text = "def f(xs):\n    ys = list(xs)\n    n = 0\n    for y in xs:\n        n += 1\n        ys.append(y)\n    return ys, n"

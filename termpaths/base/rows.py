@@ -139,8 +139,21 @@ def heights_of(rows):
     return heights
 
 
+def held_by(places):
+    """Return a dict from the positions of names, whose order is ascending, to the tuples of the names there."""
+    held = {}
+    for name, place in places.items():
+        held[place] = (*held.get(place, ()), name)
+    return held
+
+
+def taken_from(rows, held):
+    """Return the rows with the least name in place of each one that names hold."""
+    return [held[position][0] if position in held else row for position, row in enumerate(rows)]
+
+
 def read_term(rows, position):
-    """Return the value at a position as a term."""
+    """Return the value at a position as a term. What is no operator stands for itself."""
     if sizes_of(rows)[position] > MAX_SIZE:
         raise TooLarge(MAX_SIZE)
     if heights_of(rows)[position] > MAX_HEIGHT:
@@ -150,6 +163,6 @@ def read_term(rows, position):
 
 def _term_at(rows, position):
     row = rows[position]
-    if isinstance(row, int):
+    if not isinstance(row, tuple):
         return row
     return (row[0], *[_term_at(rows, inner) for inner in row[1:]])

@@ -19,12 +19,19 @@ def flows_of(program, pairs):
     places = {pair: k for k, pair in enumerate(pairs)}
     flows = []
     for edge, (first, action, last) in _passed_edges(program):
-        changes = {name: term for name, term in action}
-        for name in program[0]:
-            term = changes.get(name, name)
-            for inner in names_in(term):
-                flows.append((edge, places[(first, inner)], places[(last, name)], _depth(inner, term)))
+        for inner, name, depth in sources_of(program[0], action):
+            flows.append((edge, places[(first, inner)], places[(last, name)], depth))
     return flows
+
+
+def sources_of(names, action):
+    """Return triples (name, other name, depth) such that the name goes into the other one along an action."""
+    changes = {name: term for name, term in action}
+    found = []
+    for name in names:
+        term = changes.get(name, name)
+        found.extend([(inner, name, _depth(inner, term)) for inner in names_in(term)])
+    return found
 
 
 def bases_of(program, pairs):

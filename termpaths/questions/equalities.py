@@ -1,7 +1,7 @@
 """Equalities and shapes: what holds at a point after all runs, with papers that show it."""
 
 from termpaths.base.checks import is_index
-from termpaths.base.rows import evaluated
+from termpaths.base.rows import evaluated, held_by
 from termpaths.base.terms import is_name, sorted_terms
 from termpaths.conditions.backward import shortest_failing_path
 from termpaths.errors import InvalidNumber, InvalidOperation, TooLarge
@@ -78,9 +78,7 @@ def is_shape_paper(program, point, shape, value, *, entry=None):
 def equal_names(pattern):
     """Return the tuples of the names of a pattern that have the same value."""
     check_pattern(pattern)
-    groups = {}
-    for name, place in pattern.places.items():
-        groups[place] = (*groups.get(place, ()), name)
+    groups = held_by(pattern.places)
     return tuple([groups[place] for place in groups])
 
 

@@ -1,0 +1,1 @@
+"""Programs that compute less and give the same."""

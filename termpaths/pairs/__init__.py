@@ -1,0 +1,1 @@
+"""Pairs of programs, of which the second one follows the first one."""

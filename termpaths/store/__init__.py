@@ -1,0 +1,1 @@
+"""A store of programs and of what is asserted of them."""
