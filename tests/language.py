@@ -152,6 +152,9 @@ class Reader:
                 self.tell(node, "L2: import")
 
     def plain_value(self, node):
+        above = {one.name for one in self.tree.body if isinstance(one, ast.FunctionDef) and one.lineno < node.lineno}
+        if any(isinstance(part, ast.Name) and part.id not in above for part in ast.walk(node)):
+            return False
         if isinstance(node, ast.Dict):
             return all(isinstance(key, ast.Constant) for key in node.keys) and all(map(table_value, node.values))
         return isinstance(node, (ast.Constant, ast.Tuple)) and table_value(node)
@@ -254,6 +257,8 @@ class Reader:
         parent = self.parents[node]
         if isinstance(parent, ast.Call) and not isinstance(node.value, ast.Name):
             self.tell(node, "L7: a star in a call")
+        if called(node.value, *self.generators):
+            self.tell(node, "L7: a star over a generator")
 
     def call(self, node):
         function = node.func

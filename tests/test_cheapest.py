@@ -118,7 +118,7 @@ class CostsTest(unittest.TestCase):
             with self.assertRaises(InvalidTerm):
                 cost_of(value, costs=0, loads=0)
         for value in WRONG_COSTS:
-            for call in (lambda: cost_of("x", costs=value, loads=0), lambda: least_cost(KNOWN, "x", costs=value, loads=0),
+            for call in (lambda: cost_of("x", costs=value, loads=0), lambda: cost_of("x", costs=value), lambda: least_cost(KNOWN, "x", costs=value, loads=0),
                          lambda: cheapest(KNOWN, "x", loads=0, costs=value), lambda: is_cheapest(KNOWN, "x", 0, costs=value)):
                 with self.assertRaises(InvalidOperation):
                     call()

@@ -157,7 +157,7 @@ class PapersTest(unittest.TestCase):
             self.assertIs(judge(("follows", good[:k] + good[k:k + 1] + good[k:])), False)
         for pairs in (good[::-1], list(good), (), ((0, 0), (0, 2), [1, 1]), ((0, 0), (0, 2), (True, 1)), ((0, 0), (0, 2), (1, 1), (2, 0)),
                       ((0, 0), (0, 2), (1, 1), (1, 3)), ((0, 0), (0, 2), (1, 1, 1)), ((-1, 0), (0, 0), (0, 2), (1, 1)), "pairs", None, 7,
-                      ((False, 0), (0, 2), (1, 1)), {(0, 0): 1}, ((0, 0), (0, 2), None)):
+                      ((False, 0), (0, 2), (1, 1)), good + ((1, 1, 1),), good + ((1, 2, 0),), {(0, 0): 1}, ((0, 0), (0, 2), None)):
             self.assertIs(judge(("follows", pairs)), False)
 
     def test_greater_sets_of_pairs(self):
@@ -186,7 +186,8 @@ class PapersTest(unittest.TestCase):
                           ((0, 0), False), ((0, 1, 1), False), ([0, 1], False), ((0, True), False), ((0, 3), False), ((0, -2), False),
                           (None, False), ((0, 1, None), False), ("01", False), (((0,), 1), False)):
             self.assertIs(is_following_paper(first, second, labels, ("lost", run)), good)
-        self.assertIs(is_following_paper(first, second, labels, ("lost", (0, 1), 0)), False)
+        for value in (("lost", (0, 1), 0), ("Lost", (0, 1)), ("stuck", (0, 1)), (None, (0, 1)), (True, (0, 1)), ["lost", (0, 1)]):
+            self.assertIs(is_following_paper(first, second, labels, value), False)
         self.assertIs(is_following_paper(first, second, labels, ("follows", ((0, 0), (1, 1)))), False)
 
     def test_stuck(self):
@@ -201,6 +202,8 @@ class PapersTest(unittest.TestCase):
         for run, index in (((0, 1), 1), ((0, 1), 0), ((), 0), ((0,), 0), ((0, 1, 3), 2), ((0, 1, 3, 3), 2), ((0, 1, 2), 2), ((), 2), ((0, 1), 3),
                            ((0, 1), -1), ((0, 1), True), ((0, 1), None), ([0, 1], 2), ((1,), 2), ((0, 1, 0), 2), (None, 2), ((0, 1), (2,))):
             self.assertIs(judge(run, index), False)
+        for word in ("Stuck", "lost", "follows", None, 0, ()):
+            self.assertIs(is_following_paper(first, second, labels, (word, (0, 1), 2)), False)
         self.assertIs(judge((0, 1)), False)
         self.assertIs(judge((0, 1), 2, 2), False)
         # The run may be empty.
@@ -253,7 +256,7 @@ class PapersTest(unittest.TestCase):
 
     def test_other_values(self):
         for value in STRANGE + (("follows",), ("lost",), ("stuck",), ("lost", ()), ("stuck", (), 0), ("Follows", ((0, 0), (0, 2), (1, 1))),
-                                ["follows", ((0, 0), (0, 2), (1, 1))], (None, ((0, 0), (0, 2), (1, 1))), ("follows", ((0, 0), (0, 2), (1, 1)), 1)):
+                                ["follows", ((0, 0), (0, 2), (1, 1))], (None, ((0, 0), (0, 2), (1, 1))), ("lost", ((0, 0), (0, 2), (1, 1))), ("follows", ((0, 0), (0, 2), (1, 1)), 1)):
             self.assertIs(is_following_paper(FORK, SHORT, SHORT_LABELS, value), False)
 
 
@@ -263,6 +266,8 @@ class ErrorsTest(unittest.TestCase):
             for value in STRANGE + WRONG_PROGRAMS:
                 with self.assertRaises(InvalidProgram):
                     call(value, None, None)
+                with self.assertRaises(InvalidProgram):
+                    call(value, SHORT, SHORT_LABELS)
                 with self.assertRaises(InvalidProgram):
                     call(FORK, value, None)
             for value in WRONG_LABELS:

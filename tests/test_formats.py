@@ -146,7 +146,7 @@ class FormatsTest(unittest.TestCase):
                      "names x\npoints 01", "names x\npoints", "names x\npoints ", "names x\npoints one", "names x\npoints 1 ", "names x\npoints  1", "points 1\nnames x",
                      "names a b c d e f g h i j k\npoints 1", "names abcdefghi\npoints 1", "names x\npoints 1\n0 -> 1: skip", "names x\npoints 1\n0 -> 0: y := x", "names x\npoints 1\n0 -> 0: x := y",
                      "names x\npoints 1" + "\n0 -> 0: skip" * 121, "names x\npoints 1\n0 -> 0: skip\n", "names x\npoints 1\n\n0 -> 0: skip", "names x / points 1", "names x\r\npoints 1",
-                     "names x\npoints 10000", "Names x\npoints 1", "names x\npoints 1\nskip", "names x\npoints 1\n0 -> 0: skip 0 -> 0: skip"):
+                     "names x\npoints 10000", "names x\n1", "names x\npoint 1", "x\npoints 1", "name x\npoints 1", "Names x\npoints 1", "names x\npoints 1\nskip", "names x\npoints 1\n0 -> 0: skip 0 -> 0: skip"):
             with self.assertRaises(ParseError):
                 parse_program(text)
 

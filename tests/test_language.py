@@ -88,7 +88,8 @@ class ReaderTest(unittest.TestCase):
             "class A:\n    def __getitem__(self, k):\n        return k", "def f(d):\n    return d.items()",
             "def f(d, xs):\n    return d[(1, *xs)]", "def f(d, xs):\n    return d[1, *xs]", "def f(xs):\n    d = {}\n    d[(*xs, 1)] = 2",
             "def f(d, xs):\n    return d[g([1, *xs])]", "def f(d, xs):\n    return d[xs[0]:(*xs, 1)]",
-            "def f(x):\n    try:\n        g(x)\n    finally:\n        h(x)", "X = {1: [2]}", "X = [1]", "X = {1: {2: 3}}",
+            "def f(x):\n    try:\n        g(x)\n    finally:\n        h(x)", "X = {1: [2]}", "X = [1]", "X = {1: f}\ndef f():\n    return 1",
+            "from termpaths.errors import A\nX = {1: A}", "X = {1: {2: 3}}",
             "def f(x, y):\n    try:\n        g(x)\n    finally:\n        if x > 1:\n            y = 2",
             "class Store:\n    @property\n    def f(self):\n        self.n = 1", "class A:\n    def f(self):\n        self.n = 1",
             "class Store:\n    def __len__(self):\n        self.n = 1", "class Store:\n    def f(self, x):\n        x.n = 1",
@@ -98,7 +99,8 @@ class ReaderTest(unittest.TestCase):
             self.assertNotEqual(problems_of_tree(ast.parse(text), set()), [], text)
 
     def test_generators_that_are_kept(self):
-        for text in ("def f():\n    xs = g(1)\n    return xs", "def f():\n    return g(1)", "def f(xs):\n    return list(g(xs[0]))"):
+        for text in ("def f():\n    xs = g(1)\n    return xs", "def f():\n    return g(1)", "def f(xs):\n    return list(g(xs[0]))",
+                     "def f(xs):\n    return [*g(xs)]"):
             self.assertNotEqual(problems_of_tree(ast.parse(text), set(), {"g"}), [], text)
         text = "def f(xs):\n    for x in g(xs):\n        yield x\n    yield from g(xs)"
         self.assertEqual(problems_of_tree(ast.parse(text), set(), {"g", "f"}), [])

@@ -254,6 +254,7 @@ class PapersTest(unittest.TestCase):
             (0, "x", (0, 2), ("y", "y", "y"), False), (0, "y", (0, 2), ("x", "y", "y"), False), (1, "x", (2,), ("x", "y"), False),
             (0, "y", (0, 2), ("y", "y", "x"), False), (0, "y", (0, 2), ("y", "y", None), False), (0, "y", (0, 2), ("y", ["y"], "y"), False),
             (0, "y", (), ("y",), False), (0, "y", None, None, False), (0, "y", (0, 2), None, False), (2, "y", (), (), False), (2, "y", (), "y", False),
+            (2, "y", None, ("y",), False), (2, "y", {}, ("y",), False), (2, "y", 0, ("y",), False),
         ):
             self.assertIs(self.judge(point, name, ("needed", path, names)), good, (point, name, path[:5] if path else path))
 
@@ -272,6 +273,8 @@ class PapersTest(unittest.TestCase):
         for pairs in (smallest[::-1], list(smallest), smallest + smallest[-1:], smallest + ((3, "x"),), smallest + ((2, "w"),), smallest + (None,),
                       smallest + ([2, "z"],), ((False, "y"),) + smallest[1:], (), None, "pairs", {(2, "y"): 1}, smallest + ((2, "z", 0),)):
             self.assertIs(self.judge(0, "x", ("idle", pairs)), False)
+        for value in (("Idle", smallest), ("needed", smallest), (None, smallest), ["idle", smallest], ("idle", smallest, 0)):
+            self.assertIs(self.judge(0, "x", value), False)
         self.assertIs(is_need_paper(self.program, (), 0, "x", ("idle", ())), True)
 
     def test_other_values(self):

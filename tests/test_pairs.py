@@ -146,6 +146,8 @@ class PairedTest(unittest.TestCase):
                 with self.assertRaises(InvalidProgram):
                     call(value, None, None)
                 with self.assertRaises(InvalidProgram):
+                    call(value, SHORT, SHORT_LABELS)
+                with self.assertRaises(InvalidProgram):
                     call(FORK, value, None)
             for value in WRONG_LABELS:
                 with self.assertRaises(InvalidOperation):
@@ -312,7 +314,8 @@ class PapersTest(unittest.TestCase):
                       (0, 1), {**self.table, 0: Pattern(xl=1, xr=1, yl=1, yr=1, zl=3, zr=3)}, {**self.table, 0: Pattern(x=1, y=2, z=3)}):
             self.assertIs(self.judge(("agree", found)), False)
         self.assertIs(self.judge(("agree", self.table, 0)), False)
-        self.assertIs(self.judge(["agree", self.table]), False)
+        for value in (["agree", self.table], ("Agree", self.table), ("table", self.table), (None, self.table), ("differ", self.table)):
+            self.assertIs(self.judge(value), False)
 
     def test_more_than_the_table_of_the_program(self):
         """A table that fits no run at a point has to fit the edges that the table itself asks for."""

@@ -198,7 +198,8 @@ def _is_step(pattern, value, many):
     """Tell whether a value is a step behind so many others."""
     if not is_term(value) or not isinstance(value, tuple):
         return False
-    return all([leaf in pattern or (is_index(leaf, many + 1) and leaf > 0) for leaf in value[1:]])
+    # The integers of a term are 1 or more.
+    return all([leaf in pattern or is_index(leaf, many + 1) for leaf in value[1:]])
 
 
 def _values_of_steps(pattern, steps):

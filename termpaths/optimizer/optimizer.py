@@ -58,7 +58,7 @@ def need_paper(program, outputs, point, name):
 def is_need_paper(program, outputs, point, name, value):
     """Tell whether a value is a paper about whether a name is needed at a point."""
     _check_asked(program, outputs, point, name)
-    if not isinstance(value, tuple) or not value:
+    if not isinstance(value, tuple):
         return False
     if len(value) == 2 and value[0] == "idle":
         return _are_enough_pairs(program, outputs, value[1]) and (point, name) not in value[1]

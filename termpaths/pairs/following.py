@@ -31,7 +31,7 @@ def following_paper(first, second, labels):
 def is_following_paper(first, second, labels, value):
     """Tell whether a value is a paper about whether the second program follows the first one."""
     check_pair(first, second, labels)
-    if not isinstance(value, tuple) or len(value) < 2:
+    if not isinstance(value, tuple):
         return False
     if len(value) == 2 and value[0] == "follows":
         return _are_enough_pairs(first, second, labels, value[1])
@@ -159,7 +159,7 @@ def _are_enough_pairs(first, second, labels, value):
     for pair in value:
         for edge in leaving[pair[1]]:
             behind = pair_behind(first, second, labels, pair, edge)
-            if behind is None or behind not in pairs:
+            if behind not in pairs:
                 return False
             if labels[edge] is not None:
                 settled[behind] = True
@@ -178,7 +178,6 @@ def _is_stuck(first, second, labels, run, index):
     last = run_end(second, run)
     if last is None or (run != () and labels[run[-1]] is None) or not is_index(index, len(first[2])):
         return False
-    point = run_end(first, _labels_along(labels, run))
-    if point is None or first[2][index][0] != point:
+    if run_end(first, _labels_along(labels, run)) != first[2][index][0]:
         return False
     return index not in _labels_ahead(second, labels)[last]

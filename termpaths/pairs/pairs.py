@@ -61,7 +61,7 @@ def is_agreement_paper(first, second, labels, outputs, value, *, entry=None):
     program, pairs, steps = _program_of_pairs(first, second, labels)
     # The beginning may be too great for a pattern, and still be covered by a table.
     shape = _shape_at_entry(first, second, start)
-    if not isinstance(value, tuple) or len(value) < 2:
+    if not isinstance(value, tuple):
         return False
     if len(value) == 2 and value[0] == "agree":
         found = value[1]
@@ -159,7 +159,7 @@ def _first_difference(found, pairs, outputs):
 
 def _is_difference(program, pairs, steps, shape, run, output):
     """Tell whether a value is a run of the second program to an output, behind which both names differ."""
-    if not isinstance(run, tuple) or output[:2] not in pairs:
+    if not isinstance(run, tuple):
         return False
     edges = {(program[2][k][0], step): k for k, step in enumerate(steps)}
     here = 0

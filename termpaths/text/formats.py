@@ -34,9 +34,9 @@ def parse_pattern(text):
     _check_string(text)
     values = {}
     for part in text.split("; "):
-        name, sign, value = part.partition(" = ")
+        name, _, value = part.partition(" = ")
         values[name] = term_of(value)
-        if not is_name(name) or sign == "" or not _is_value(values[name]):
+        if not is_name(name) or not _is_value(values[name]):
             raise ParseError("not a name and its value")
     if len(values) > MAX_NAMES:
         raise ParseError("more than ten names")
